@@ -1,0 +1,171 @@
+"""The files of the package against LANGUAGE.md, and the check itself against code that breaks it."""
+
+import ast
+import importlib
+import inspect
+import os
+import unittest
+
+from tests.language import PACKAGE, faults, package_faults
+from tests.test_errors import GIVEN, INDEX, NOTHING
+
+ROOT = os.path.dirname(os.path.dirname(os.path.abspath(__file__)))
+FOLDER = os.path.join(ROOT, PACKAGE)
+# What has landed of the interface, with the parameters.
+INTERFACE = {
+    "errors": {name: None for name in ["SteamError"] + GIVEN + INDEX + NOTHING},
+    "angles": {
+        "is_angle": "value", "is_turn": "value", "angle_of": "form vector level", "falling_angle": "form vector level",
+        "way_angle": "form way",
+    },
+    "places": {
+        "as_way": "angle", "side_at": "angle vector level", "is_same_place": "angle other", "is_before": "angle other",
+        "is_between": "angle low high", "way_between": "low high", "opposite_angle": "angle", "mirrored_angle": "angle",
+        "turned_angle": "angle turn", "turned": "form vector turn", "turn_sum": "form turn other", "turn_back": "turn",
+    },
+    "regions": {
+        "is_region": "value", "holds": "region angle", "cuts": "region", "arcs": "region", "is_never": "region",
+        "is_always": "region", "lies_within": "region other", "is_same_region": "region other", "some_angle": "region",
+        "parting_angle": "region other", "opposite_region": "region", "turned_region": "region turn",
+    },
+    "valves": {
+        "is_valve": "value", "valve_of": "form vector laps port", "state_at": "valve end angle",
+        "state_region": "valve end state", "events": "valve", "event_angle": "valve end event", "leads": "valve",
+        "blows": "valve end", "reversed_valve": "valve", "exchanged_valve": "valve", "turned_valve": "valve turn",
+    },
+    "ports": {
+        "compare_opening": "valve end angle ratio", "compare_greatest": "valve end ratio", "wide_region": "valve end ratio",
+        "greatest_way": "valve end",
+    },
+    "pistons": {
+        "share_angle": "form rod share stroke", "compare_share": "rod angle share", "compare_for_rods": "rod angle share",
+        "compare_event": "valve rod end event share", "compare_pistons": "angle other", "compare_cutoffs": "valve",
+    },
+}
+# A piece of code for each rule that the check knows, and the rule that it breaks.
+BROKEN = (
+    ("L2", "from os import path\n"), ("L2", "from .angles import is_form\n"), ("L2", "from steamlinks.angles import *\n"),
+    ("L2", "def f():\n    from steamlinks.angles import is_form\n    return is_form\n"), ("L2", "from math import sqrt\n"),
+    ("L2", "from math import gcd as common\n"), ("L2", "A = 1\nfrom math import gcd\n"),
+    ("L2", "from math import gcd\n\n\ndef f(xs):\n    return gcd(*xs)\n"),
+    ("L2", "from math import gcd\n\n\ndef f(xs):\n    g = gcd\n    return g(xs, 1)\n"),
+    ("L16", "import steamlinks.angles\n"), ("L16", "import sys\n"), ("L3", "for x in (1, 2):\n    pass\n"),
+    ("L3", "A = len((1, 2))\n"), ("L3", "A, B = 1, 2\n"), ("L15", "A = ([1], 2)\n"), ("L15", "A = 1\nA = 2\n"),
+    ("L15", "def f():\n    return 1\n\n\ndef f():\n    return 2\n"), ("L15", "def f(hash):\n    return hash\n"),
+    ("L15", "from math import gcd\n\n\ndef f(gcd):\n    return 1\n"), ("L15", "def f():\n    round = 1\n    return round\n"),
+    ("L15", "def f():\n    class A:\n        pass\n    return 1\n"),
+    ("L15", "from steamlinks.places import turned\n\n\ndef f(x):\n    turned = x\n    return turned\n"),
+    ("L4", "def f(x=[]):\n    return x\n"), ("L4", "def d(f):\n    return f\n\n\n@d\ndef g():\n    return 1\n"),
+    ("L6", "def f():\n    global A\n    A = 1\n"), ("L6", "async def f():\n    return 1\n"), ("L6", "def f(:\n"),
+    ("L7", "def f(x):\n    return x / 2\n"), ("L7", "A = 1.5\n"), ("L7", "def f(xs):\n    return (x for x in xs)\n"),
+    ("L8", "def f(x):\n    return hash(x)\n"), ("L8", "def f(x):\n    return pow(x, 2)\n"), ("L8", "def f(x):\n    return chr(x)\n"),
+    ("L8", "def f(list):\n    return 1\n"), ("L8", "class A:\n    def sum(self):\n        return 1\n"),
+    ("L8", "def f(x):\n    print(x)\n"), ("L8", "def f(x):\n    return x.__dict__\n"),
+    ("L10", "A = 1\n" * 400), ("L10", "A = '" + "x" * 120 + "'\n"), ("L10", "def f(x):\n" + "    x += 1\n" * 40),
+    ("L12", "__a = 1\n"), ("L12", "_wall = 1\n"), ("L12", "_pe_x = 1\n"), ("L12", "class _A:\n    pass\n"),
+    ("L12", "def f(_record):\n    return 1\n"), ("L12", "def f():\n    _ = 1\n    return _\n"),
+    ("L14", "A = 1\t\n"), ("L14", "# \u00e9\n"), ("L17", "def f(register):\n    return 1\n"), ("L17", "def f(id):\n    return 1\n"),
+    ("L17", "def f(x):\n    return x.open\n"), ("L17", "A = 'an Enum'\n"), ("L17", "def f(x):\n    return x.f_back\n"),
+    ("L17", "def f(x):\n    x.law = 1\n"), ("L17", "my_dataclass = 1\n"), ("L17", "def f(x):\n    return type(x)\n"),
+    ("L18", "class A:\n    def f(self):\n        return 1\n\n    def f(self):\n        return 2\n"),
+    ("L19", "def f(e):\n    raise e\n"), ("L19", "def f(x):\n    try:\n        return x[0]\n    except TypeError:\n        return 1\n"),
+    ("L19", "def f(x):\n    try:\n        return x[0]\n    except Exception:\n        return 1\n"),
+    ("L20", "def f(x, y):\n    return x is y\n"), ("L22", "def f(xs):\n    g = len\n    return g(xs)\n"),
+    ("L22", "def f(x):\n    return int(x, base=2)\n"), ("L23", "def f(xs):\n    return zip(xs, xs)\n"),
+    ("L24", "def f(xs):\n    return {x for x in xs}\n"), ("L26", "def f(x):\n    x.items = 1\n"),
+    ("L27", "A = '100 %'\n"), ("L27", "def f(n):\n    return 2 ** n\n"), ("L27", "A = '__odd__'\n"),
+    ("L28", "def __len__():\n    return 1\n"),
+)
+CLEAN = '''"""What this is."""
+
+from math import gcd, isqrt
+
+from steamlinks.angles import is_form
+
+NAMES = ("a", "b")
+
+
+class Box:
+    """A box."""
+
+    def __init__(self, rows):
+        self.rows = rows
+
+    def __len__(self):
+        return len(self.rows)
+
+
+def common(first, *, other=1):
+    # Why, not what.
+    rows = [x * x for x in range(first) if x in NAMES or is_form(x)]
+    for at, row in enumerate(rows):
+        if row is None or isinstance(row, (int, str)):
+            rows = rows + [gcd(at, isqrt(other))]
+    return sorted(rows, key=lambda x: -x), any([row > 1 for row in rows]), (1 << first) // 3, ", ".join(NAMES)
+'''
+
+
+def files_of_package():
+    files = {}
+    for name in sorted(os.listdir(FOLDER)):
+        if name != "__pycache__":
+            with open(os.path.join(FOLDER, name), encoding="utf-8") as file:
+                files[name] = file.read()
+    return files
+
+
+class Package(unittest.TestCase):
+    def test_no_faults(self):
+        self.assertEqual(package_faults(files_of_package()), [])
+
+    def test_only_files_of_python(self):
+        for name in files_of_package():
+            self.assertTrue(name.endswith(".py"), name)
+
+    def test_the_interface_is_defined_where_it_is_listed(self):
+        files = files_of_package()
+        for module, names in INTERFACE.items():
+            defined = [
+                node.name for node in ast.parse(files[module + ".py"]).body if isinstance(node, (ast.FunctionDef, ast.ClassDef))
+            ]
+            for name, parameters in names.items():
+                self.assertIn(name, defined, module)
+                if parameters is not None:
+                    function = getattr(importlib.import_module(f"{PACKAGE}.{module}"), name)
+                    self.assertEqual(list(inspect.signature(function).parameters), parameters.split(), name)
+
+
+class Check(unittest.TestCase):
+    def test_meets_what_is_broken(self):
+        for rule, text in BROKEN:
+            self.assertIn(rule, [fault[0] for fault in faults("some.py", text)], text[:200])
+
+    def test_passes_what_is_not(self):
+        self.assertEqual(faults("some.py", CLEAN), [])
+
+    def test_tells_the_line(self):
+        self.assertEqual(faults("some.py", "A = 1\nB = 1.5\n"), [("L7", "some.py", 2, "a float")])
+
+    def check_files(self, rule, files):
+        found = package_faults({"__init__.py": "", **files})
+        self.assertIn(rule, [fault[0] for fault in found], files)
+
+    def test_files_together(self):
+        self.assertEqual(package_faults({"__init__.py": "", "some.py": CLEAN, "angles.py": "def is_form(x):\n    return x\n"}), [])
+        self.check_files("L16", {"a.py": "from steamlinks.b import f\n", "b.py": "g = 1\n"})
+        self.check_files("L16", {"a.py": "from steamlinks.c import f\n"})
+        self.check_files("L16", {"a.py": "from steamlinks.b import f\n", "b.py": "from steamlinks.c import f\n", "c.py": "f = 1\n"})
+        self.check_files("L16", {
+            "a.py": "from steamlinks.b import f\n\ng = 1\n", "b.py": "from steamlinks.c import h\n\nf = 1\n",
+            "c.py": "from steamlinks.a import g\n\nh = 1\n",
+        })
+        self.check_files("L25", {"a.py": "def f(x):\n    return x.as_integer_ratio()\n"})
+        self.check_files("L25", {"a.py": "def f(x):\n    return x.split(sep=',')\n"})
+        for name in ("test_a.py", "law_a.py", "Sum.py", "sum.py", "math.py", "conftest.py", "a-b.py", "type.py"):
+            found = [fault[0] for fault in package_faults({"__init__.py": "", name: ""})]
+            self.assertTrue("L14" in found or "L1" in found, name)
+        self.assertIn("L14", [fault[0] for fault in package_faults({"a.py": ""})])
+
+
+if __name__ == "__main__":
+    unittest.main()
