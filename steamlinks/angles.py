@@ -85,24 +85,22 @@ def angle_on_way(form, way):
     return (form,) + reduced((-form * way[1], way[0], 0))
 
 
-def angle_of(form, vector, level):
+def check_passing(form, vector, level):
     check_form(form)
     check_vector(vector)
     check_number(level)
-    angle = rising_angle(form, vector, level)
-    if angle is None:
+    if rising_angle(form, vector, level) is None:
         raise NoAngle()
-    return angle
+
+
+def angle_of(form, vector, level):
+    check_passing(form, vector, level)
+    return rising_angle(form, vector, level)
 
 
 def falling_angle(form, vector, level):
-    check_form(form)
-    check_vector(vector)
-    check_number(level)
-    angle = lowering_angle(form, vector, level)
-    if angle is None:
-        raise NoAngle()
-    return angle
+    check_passing(form, vector, level)
+    return lowering_angle(form, vector, level)
 
 
 def way_angle(form, way):

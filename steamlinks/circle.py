@@ -22,7 +22,7 @@ def place_sign(angle, vector, level):
 
 
 def sine_sign(angle, other):
-    """The sign of the sine of the angle from the first place ahead to the other one."""
+    """The sign of the sine of the angle from the first place ahead to the other one, as point 8 tells it."""
     form, level, far = angle[0], angle[3], other[3]
     along, across = inner(form, angle[1:3], other[1:3]), cross(angle[1:3], other[1:3])
     plain = (form * level * far * across, far * along)
@@ -30,23 +30,15 @@ def sine_sign(angle, other):
     return sign_with_roots(plain, rooted, root_square(angle), root_square(other))
 
 
-def cosine_sign(angle, other):
-    """The sign of the cosine of the angle from the first place ahead to the other one."""
-    form, level, far = angle[0], angle[3], other[3]
-    along, across = inner(form, angle[1:3], other[1:3]), cross(angle[1:3], other[1:3])
-    plain = (form * level * far * along, -form * far * across)
-    rooted = (form * level * across, along)
-    return sign_with_roots(plain, rooted, root_square(angle), root_square(other))
-
-
-def share_place(angle, other):
-    return sine_sign(angle, other) == 0 and cosine_sign(angle, other) > 0
-
-
 def is_in_first_half(angle):
     """Whether the place is met from that of (1, 0) on and ahead of that of (-1, 0)."""
     height = place_sign(angle, (0, 1), 0)
     return height > 0 or (height == 0 and place_sign(angle, (1, 0), 0) > 0)
+
+
+def share_place(angle, other):
+    # The sine is 0 for places half a turn apart, too, but these never lie in the same half.
+    return is_in_first_half(angle) == is_in_first_half(other) and sine_sign(angle, other) == 0
 
 
 def comes_before(angle, other):
@@ -59,8 +51,7 @@ def comes_before(angle, other):
 
 
 def lies_between(angle, low, high):
-    if share_place(low, high):
-        return not share_place(angle, low)
+    """Whether the place is met behind low and ahead of high; with one place for both, whether it is another."""
     if comes_before(low, high):
         return comes_before(low, angle) and comes_before(angle, high)
     return comes_before(low, angle) or comes_before(angle, high)

@@ -89,6 +89,11 @@ class IsRegion(unittest.TestCase):
         ):
             self.assertIs(is_region((1, tree)), False, tree)
 
+    def test_all_is_no_side_and_takes_none_away(self):
+        self.assertIs(is_region((1, ("and", (many_sides(24),) + (ALL,) * 7))), True)
+        self.assertIs(is_region((1, ("and", (ALL, many_sides(25))))), False)
+        self.assertIs(is_region((1, ("and", (ALL, ("not", ALL), many_sides(24), CROSSED)))), False)
+
     def test_no_pairs_and_no_forms(self):
         for value in (
             None, (), (1,), ALL, (1, ALL, ALL), [1, ALL], (0, ALL), (4, ALL), (True, ALL), ("1", ALL), (ALL, 1), "1a",
