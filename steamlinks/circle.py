@@ -21,6 +21,17 @@ def place_sign(angle, vector, level):
     return sign_with_root(plain, -across, root_square(angle))
 
 
+def along_order(angle, other, vector):
+    """The sign of <u, vector> at the first place less that at the other one."""
+    size, far_size = norm(angle[0], angle[1:3]), norm(other[0], other[1:3])
+    along = angle[3] * inner(angle[0], angle[1:3], vector)
+    far_along = other[3] * inner(other[0], other[1:3], vector)
+    # As point 7 tells it, <u, vector> is (along - across * R) / N.
+    plain = (along * far_size - far_along * size, -cross(angle[1:3], vector) * far_size)
+    rooted = (cross(other[1:3], vector) * size, 0)
+    return sign_with_roots(plain, rooted, root_square(angle), root_square(other))
+
+
 def sine_sign(angle, other):
     """The sign of the sine of the angle from the first place ahead to the other one, as point 8 tells it."""
     form, level, far = angle[0], angle[3], other[3]

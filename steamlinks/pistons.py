@@ -1,8 +1,8 @@
 """Where the piston stands in its stroke, with an endless rod and with rods of told lengths."""
 
 from steamlinks.angles import check_angle, check_form, check_like
-from steamlinks.basics import is_ratio, norm, reduced, sign_with_roots
-from steamlinks.circle import place_sign, root_square
+from steamlinks.basics import is_ratio, reduced
+from steamlinks.circle import along_order, place_sign
 from steamlinks.errors import InvalidRod, InvalidShare, InvalidStroke
 from steamlinks.places import opposite_angle
 from steamlinks.valves import check_end, check_event, check_valve, is_one_of, some_event_angle
@@ -54,14 +54,17 @@ def share_sign(rod, angle, share):
     return -place_sign(angle, (cosine[1], 0), cosine[0])
 
 
-def cosine_order(angle, other):
-    """The sign of the cosine at the other place less that at the first one."""
-    form, a, b, level = angle
-    _, c, d, height = other
-    # The cosine is (l * a + b * R) / N.
-    size, far_size = norm(form, (a, b)), norm(form, (c, d))
-    plain = (size * height * c - far_size * level * a, -far_size * b)
-    return sign_with_roots(plain, (size * d, 0), root_square(angle), root_square(other))
+def share_order(angle, other):
+    """With an endless rod, the sign of the share at the first place less that at the other one."""
+    return along_order(other, angle, (1, 0))
+
+
+def angle_of_share(form, rod, share, stroke):
+    """The angle at which the piston stands at the share on the stroke."""
+    p, q = share_cosine(rod, share)
+    if stroke == "out":
+        return (form, -q, 0, -p)
+    return (form, q, 0, p)
 
 
 def share_angle(form, rod, share, stroke):
@@ -69,10 +72,7 @@ def share_angle(form, rod, share, stroke):
     check_rod(rod)
     check_share(share)
     check_stroke(stroke)
-    p, q = share_cosine(rod, share)
-    if stroke == "out":
-        return (form, -q, 0, -p)
-    return (form, q, 0, p)
+    return angle_of_share(form, rod, share, stroke)
 
 
 def compare_share(rod, angle, share):
@@ -111,7 +111,7 @@ def compare_pistons(angle, other):
     check_angle(angle)
     check_angle(other)
     check_like(angle, other)
-    return cosine_order(angle, other)
+    return share_order(angle, other)
 
 
 def compare_cutoffs(valve):
@@ -121,4 +121,4 @@ def compare_cutoffs(valve):
     if head is None or crank is None:
         return None
     # Half a turn on, the share is what is left of the stroke.
-    return cosine_order(head, opposite_angle(crank))
+    return share_order(head, opposite_angle(crank))

@@ -3,8 +3,8 @@
 from steamlinks.angles import check_angle, check_like, check_turn, is_form
 from steamlinks.basics import opposite_vector, turn_factor, turned_vector
 from steamlinks.errors import InvalidRegion
-from steamlinks.trees import angle_behind, both_trees, changed_tree, first_angle, is_tree, other_tree
-from steamlinks.trees import tree_cuts, tree_holds
+from steamlinks.trees import both_trees, changed_tree, first_angle, is_tree, other_tree
+from steamlinks.trees import tree_arcs, tree_cuts, tree_holds
 
 
 def is_region(value):
@@ -38,34 +38,7 @@ def cuts(region):
 def arcs(region):
     check_region(region)
     form, tree = region
-    marks = tree_cuts(form, tree)
-    if not marks:
-        return round_arcs(first_angle(form, tree) is not None)
-    truths = []
-    for index in range(len(marks)):
-        truths.append(tree_holds(tree, marks[index]))
-        truths.append(tree_holds(tree, angle_behind(form, marks, index)))
-    if all(truths):
-        return round_arcs(True)
-    begins = [index for index in range(len(truths)) if truths[index] and not truths[index - 1]]
-    return tuple([arc_from(marks, truths, begin) for begin in begins])
-
-
-def round_arcs(is_all):
-    """The arcs of a region that is all of the turn, or nothing."""
-    if is_all:
-        return ((None, True, None, True),)
-    return ()
-
-
-def arc_from(marks, truths, begin):
-    """The arc that begins at a cut, with an even index in the truths, or in the open arc behind it."""
-    end = begin
-    while truths[(end + 1) % len(truths)]:
-        end += 1
-    # An open arc ends at the cut that follows it.
-    last = marks[(end + 1) // 2 % len(marks)]
-    return (marks[begin // 2], begin % 2 == 0, last, end % 2 == 0)
+    return tree_arcs(form, tree)
 
 
 def is_never(region):

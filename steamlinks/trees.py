@@ -120,6 +120,40 @@ def first_angle(form, tree):
     return None
 
 
+def samples_round(form, marks):
+    """Each mark, and behind it an angle in the open arc to the next one; any angle if there are no marks."""
+    if not marks:
+        return [angle_on_way(form, (1, 0))]
+    samples = []
+    for index in range(len(marks)):
+        samples.append(marks[index])
+        samples.append(angle_behind(form, marks, index))
+    return samples
+
+
+def arcs_from(marks, truths):
+    """The arcs that hold where the truths are True: one for each of the samples round the marks."""
+    if all(truths):
+        return ((None, True, None, True),)
+    begins = [index for index in range(len(truths)) if truths[index] and not truths[index - 1]]
+    return tuple([arc_from(marks, truths, begin) for begin in begins])
+
+
+def arc_from(marks, truths, begin):
+    """The arc that begins at a mark, with an even index in the truths, or in the open arc behind it."""
+    end = begin
+    while truths[(end + 1) % len(truths)]:
+        end += 1
+    # An open arc ends at the mark that follows it.
+    last = marks[(end + 1) // 2 % len(marks)]
+    return (marks[begin // 2], begin % 2 == 0, last, end % 2 == 0)
+
+
+def tree_arcs(form, tree):
+    cuts = tree_cuts(form, tree)
+    return arcs_from(cuts, [tree_holds(tree, sample) for sample in samples_round(form, cuts)])
+
+
 def changed_tree(tree, change):
     """The same tree with other sides: change tells the vector and the level of each."""
     word = tree[0]

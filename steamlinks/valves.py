@@ -85,15 +85,39 @@ def exhaust_side(valve, end):
     return (vector, laps[3])
 
 
+def state_named(takes_steam, exhausts):
+    if takes_steam and exhausts:
+        return "both"
+    if takes_steam:
+        return "steam"
+    if exhausts:
+        return "exhaust"
+    return "closed"
+
+
+def is_steam_event(event):
+    return event in ("admission", "cutoff")
+
+
 def some_event_angle(valve, end, event):
     """The angle of an event, None if the valve has none."""
-    if event in ("admission", "cutoff"):
-        vector, level = steam_side(valve, end)
-    else:
-        vector, level = exhaust_side(valve, end)
+    vector, level = steam_side(valve, end) if is_steam_event(event) else exhaust_side(valve, end)
     if event in ("admission", "release"):
         return rising_angle(valve[0], vector, level)
     return lowering_angle(valve[0], vector, level)
+
+
+def state_on(valve, end, angle):
+    vector, level = steam_side(valve, end)
+    takes_steam = place_sign(angle, vector, level) > 0
+    vector, level = exhaust_side(valve, end)
+    return state_named(takes_steam, place_sign(angle, vector, level) > 0)
+
+
+def mirrored_valve(valve):
+    """The reversed valve."""
+    form, vector, laps, port = valve
+    return (form, (vector[0], -vector[1]), laps, port)
 
 
 def valve_of(form, vector, laps, port):
@@ -109,17 +133,7 @@ def state_at(valve, end, angle):
     check_end(end)
     check_angle(angle)
     check_like(valve, angle)
-    vector, level = steam_side(valve, end)
-    takes_steam = place_sign(angle, vector, level) > 0
-    vector, level = exhaust_side(valve, end)
-    exhausts = place_sign(angle, vector, level) > 0
-    if takes_steam and exhausts:
-        return "both"
-    if takes_steam:
-        return "steam"
-    if exhausts:
-        return "exhaust"
-    return "closed"
+    return state_on(valve, end, angle)
 
 
 def state_region(valve, end, state):
@@ -176,8 +190,7 @@ def blows(valve, end):
 
 def reversed_valve(valve):
     check_valve(valve)
-    form, vector, laps, port = valve
-    return (form, (vector[0], -vector[1]), laps, port)
+    return mirrored_valve(valve)
 
 
 def exchanged_valve(valve):
