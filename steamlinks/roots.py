@@ -157,9 +157,13 @@ def high_of(number):
     return number
 
 
-def bring_closer(number):
-    if isinstance(number, Root):
+def bring_closer(number, other):
+    """Narrows the bracket of that one of two numbers, not both ratios, that is the wider one."""
+    # Narrowing both would make the finer one finer and finer while the other one still lags behind.
+    if not isinstance(other, Root) or (isinstance(number, Root) and number.bits <= other.bits):
         number.closer()
+    else:
+        other.closer()
 
 
 def ratio_order(ratio, other):
@@ -201,8 +205,7 @@ def number_order(number, other):
     if are_one_root(number, other):
         return 0
     while ratio_order(number.low(), other.high()) < 0 and ratio_order(other.low(), number.high()) < 0:
-        number.closer()
-        other.closer()
+        bring_closer(number, other)
     return ratio_order(number.low(), other.low())
 
 
@@ -210,10 +213,12 @@ def some_ratio_between(low, high):
     """A ratio above a number and below a greater one."""
     begin, end = high_of(low), low_of(high)
     while ratio_order(begin, end) >= 0:
-        bring_closer(low)
-        bring_closer(high)
+        bring_closer(low, high)
         begin, end = high_of(low), low_of(high)
-    return reduced((begin[0] * end[1] + end[0] * begin[1], 2 * begin[1] * end[1]))
+    # On a grid with steps less than their difference, the first step above the lower one is below the upper one.
+    gap, parts = end[0] * begin[1] - begin[0] * end[1], begin[1] * end[1]
+    bits = max(parts.bit_length() - gap.bit_length() + 1, 0)
+    return reduced(((begin[0] << bits) // begin[1] + 1, 1 << bits))
 
 
 def certain_sign(polynomial, root):

@@ -1,6 +1,7 @@
 """An independent reckoning with long decimal fractions, to hold the exact answers against."""
 
 from decimal import Decimal, getcontext
+from functools import lru_cache
 
 getcontext().prec = 90
 NEAR = Decimal(10) ** -35
@@ -117,3 +118,53 @@ def stroke_share(rod, cosine):
         return (1 - cosine) / 2
     long = Decimal(rod[0]) / rod[1]
     return (long + 1 - cosine - (long * long - 1 + cosine * cosine).sqrt()) / 2
+
+
+def value(polynomial, number):
+    total = Decimal(0)
+    for c in reversed(polynomial):
+        total = total * number + c
+    return total
+
+
+def single_root(polynomial, derivative, low, high):
+    """The root between two numbers at which the polynomial has unlike signs: Newton's steps, halving where they leave."""
+    begin = sign(value(polynomial, low))
+    found, step = (low + high) / 2, high - low
+    while abs(step) > Decimal(10) ** -75:
+        here, slope = value(polynomial, found), value(derivative, found)
+        if here * begin > 0:
+            low = found
+        else:
+            high = found
+        last = found
+        found = (low + high) / 2 if slope == 0 else found - here / slope
+        if not low <= found <= high or abs(found - last) * 2 > abs(step):
+            found = (low + high) / 2
+        step = found - last
+    return found
+
+
+@lru_cache(maxsize=None)
+def real_roots(polynomial):
+    """The different real roots of a polynomial other than (), ascending: between the roots of its derivative."""
+    if len(polynomial) < 2:
+        return []
+    if len(polynomial) == 2:
+        return [Decimal(-polynomial[0]) / polynomial[1]]
+    derivative = tuple(power * c for power, c in enumerate(polynomial))[1:]
+    most = 2 + max(abs(Decimal(c) / polynomial[-1]) for c in polynomial)
+    marks = [-most] + real_roots(derivative) + [most]
+    roots = [mark for mark in marks if sign(value(polynomial, mark)) == 0]
+    for low, high in zip(marks, marks[1:]):
+        if sign(value(polynomial, low)) * sign(value(polynomial, high)) < 0:
+            roots.append(single_root(polynomial, derivative, low, high))
+    roots = sorted(roots)
+    return [root for index, root in enumerate(roots) if index == 0 or sign(root - roots[index - 1]) != 0]
+
+
+def number(point):
+    """What a point stands for."""
+    if isinstance(point[0], int):
+        return Decimal(point[0]) / point[1]
+    return real_roots(point[0])[point[1]]

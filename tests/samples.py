@@ -62,3 +62,26 @@ def some_valves(many, seed, most=5):
         if gcd(*vector, *laps, port) == 1:
             valves.append((chance.choice(FORMS), vector, laps, port))
     return valves
+
+
+def product(*factors):
+    """The product of polynomials."""
+    numbers = [1]
+    for factor in factors:
+        sums = [0] * (len(numbers) + len(factor) - 1)
+        for index, first in enumerate(numbers):
+            for place, second in enumerate(factor):
+                sums[index + place] += first * second
+        numbers = sums
+    return tuple(numbers)
+
+
+def some_polynomials(many, seed, longest=6, most=4):
+    chance = Random(seed)
+    found = []
+    for _ in range(many):
+        numbers = [chance.randint(-most, most) for _ in range(chance.randint(0, longest))]
+        while numbers and numbers[-1] == 0:
+            numbers.pop()
+        found.append(tuple(numbers))
+    return found
