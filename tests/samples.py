@@ -85,3 +85,22 @@ def some_polynomials(many, seed, longest=6, most=4):
             numbers.pop()
         found.append(tuple(numbers))
     return found
+
+
+NOTCHES = ((-1, 1), (-3, 4), (-2, 3), (-1, 2), (-1, 5), (0, 1), (1, 7), (1, 3), (1, 2), (5, 7), (7, 8), (1, 1))
+
+
+def some_links(many, seed, most=4):
+    """Links with small numbers, some of them without one or two of their vectors."""
+    chance = Random(seed)
+    links = []
+    while len(links) < many:
+        vectors = [(chance.randint(-most, most), chance.randint(-most, most)) for _ in range(3)]
+        for index in (1, 2):
+            if chance.random() < 0.25:
+                vectors[index] = (0, 0)
+        laps = tuple(chance.randint(-most, most) for _ in range(4))
+        port = chance.randint(1, 4)
+        if gcd(*vectors[0], *vectors[1], *vectors[2], *laps, port) == 1:
+            links.append((chance.choice(FORMS), *vectors, laps, port))
+    return links

@@ -41,6 +41,37 @@ INTERFACE = {
         "share_angle": "form rod share stroke", "compare_share": "rod angle share", "compare_for_rods": "rod angle share",
         "compare_event": "valve rod end event share", "compare_pistons": "angle other", "compare_cutoffs": "valve",
     },
+    "polynomials": {
+        "is_polynomial": "value", "added": "polynomial other", "multiplied": "polynomial other", "value_at": "polynomial ratio",
+        "reduced_polynomial": "polynomial", "common_divisor": "polynomial other", "plain_polynomial": "polynomial",
+        "count_roots": "polynomial low high",
+    },
+    "knots": {
+        "is_knot": "value", "is_point": "value", "roots_of": "polynomial", "sign_at": "polynomial point", "compare_points": "point other",
+        "ratio_between": "point other", "enclosed": "point ratio",
+    },
+    "links": {
+        "is_link": "value", "valve_at": "link notch", "eccentric_of": "link", "lead_at": "link end notch", "has_one_lead": "link end",
+    },
+    "notches": {
+        "is_lot": "value", "lot_holds": "lot point", "lot_both": "lot other", "lot_either": "lot other", "lot_rest": "lot",
+        "are_same_lots": "lot other", "any_notch": "lot", "event_notches": "link end event", "lead_notches": "link end ratio",
+        "state_notches": "link angle end state", "late_notches": "link end rod share", "blow_notches": "link end",
+    },
+    "riders": {
+        "open_region": "valve rider end ratio", "plate_kind": "valve rider end ratio", "plate_marks": "valve rider end",
+        "plate_kinds": "valve rider end", "compare_distance": "valve rider end angle ratio",
+    },
+    "alike": {
+        "are_alike": "valve other", "unlike_angle": "valve other", "are_alike_turned": "valve other",
+        "are_alike_at": "link other notch", "are_always_alike": "link other", "alike_notches": "link other",
+        "parting_notch": "link other",
+    },
+    "engines": {
+        "states_at": "engine angle", "pull_vector": "engine angle", "pull_sign": "engine angle", "compare_pull": "engine angle ratio",
+        "marks_of": "engine", "starting_arcs": "engine sense", "starts_everywhere": "engine sense", "dead_angle": "engine sense",
+        "is_above": "engine sense ratio", "weak_angle": "engine sense ratio", "mirrored_engine": "engine",
+    },
 }
 # A piece of code for each rule that the check knows, and the rule that it breaks.
 BROKEN = (

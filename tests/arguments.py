@@ -1,0 +1,277 @@
+"""Arguments of all kinds, wrong ones and good ones, and the functions that take them."""
+
+from steamlinks import alike, angles, engines, errors, knots, links, notches, pistons, places, polynomials, ports, regions, riders
+from steamlinks import valves
+from tests.samples import GREAT
+
+
+class Grumpy:
+    """Not to be compared with anything."""
+
+    def __eq__(self, other):
+        raise AssertionError("compared")
+
+    __hash__ = None
+
+
+def nested(value, deep):
+    for _ in range(deep):
+        value = (value,)
+    return value
+
+
+# What is none of any kind of argument.
+STRANGE = (
+    None, True, False, "", "x", "1", b"", b"head", (), [], {}, {"head": 1}, {1, 2}, frozenset((1,)), object(), Grumpy(), len, int,
+    range(3), 1j, [1, 0], [None], (None,), (True,), ((),), nested(1, 14), nested((1, 0), 13), [[1, 0]], slice(1, 2), Ellipsis,
+    ValueError("x"), lambda: 1, bytearray(b"a"),
+)
+WHOLE = (0, 1, -1, 2, 3, 4, 5, GREAT, -GREAT)
+PAIRS = ((1, 0), (0, 1), (-1, 0), (1, 1), (3, 2), (1, 2), (0, 0), (2, 4), (0, -1), (-1, 2), (2, 0), (1, -1), (2, 1))
+BROKEN_PAIRS = (
+    (1,), (1, 2, 3), [1, 2], (True, 1), (1, True), (False, 1), (1, None), (None, 1), ("1", "2"), "12", ((1, 2),), ((1,), 2),
+    (1, (2,)), (1, [2]), {1: 2}, (1, 1j), range(1, 3),
+)
+FRONT = (1, 0, 1, 0)
+SLIDE = (1, (3, 4), (3, 0, 3, 0), 2)
+SIDE = ("side", (3, 4), 3)
+BAD_TREES = (
+    (), ("none",), ("all", 1), ["all"], ("not",), ("not", ()), ("and", ()), ("or", [SIDE]), ("and", (SIDE,) * 9),
+    ("or", (("all",),) * 9), ("side", (3, 4)), ("side", (3, 4), True), ("side", [3, 4], 3), ("side", (3, 4, 5), 3),
+    ("not", ("not", ("not", ("not", ("not", ("not", ("all",))))))), ("not", SIDE, SIDE), ("and", SIDE),
+    ("and", (("and", (SIDE,) * 8),) * 3 + (SIDE,)), ("or", (("or", (SIDE,) * 5),) * 5), nested(SIDE, 11), (Grumpy(),),
+    ("side", Grumpy(), 1), ("not", Grumpy()), ("and", (Grumpy(),)), "all", ("All",), ("or", (SIDE, None)),
+)
+
+BROKEN_RATIOS = ((0, 0), (1, 0), (0, 2), (2, 4), (2, 2), (1, -1), (1, -2), (-1, -2), (0, -1), (-2, 0), (GREAT, 2), (3, -GREAT))
+BROKEN_KNOTS = (
+    ((1, 0, 1), 0), ((-2, 0, 1), 2), ((-2, 0, 1), -1), ((-2, 0, 1), True), ((-2, 0, 1), None), ((4, 0, -4, 0, 1), 0), ((-4, 0, 2), 0),
+    ((2, 0, -1), 0), ((), 0), ((1,), 0), ((-1, 2), 0), ((-1, 0, 1), 0), ((2, -4, -1, 2), 0), ([-2, 0, 1], 0), ((-2, 0, 1),), ((-2, 0, 1), 0, 0),
+    [(-2, 0, 1), 0], ((-2, False, 1), 0), ((-2, 0, 1), (0,)), (((-2, 0, 1), 0),), ((-2, 0, Grumpy()), 0), ((-2, 0, 1), Grumpy()), (0, (-2, 0, 1)),
+)
+LINK = (1, (0, 4), (3, 0), (0, 0), (1, 0, 1, 0), 1)
+STRETCH = ((-1, 1), True, (1, 1), True)
+CYLINDER = ((2, 1), 3, SLIDE)
+
+BAD = {
+    "form": (errors.InvalidForm, (0, 4, -1, -3, GREAT) + PAIRS[:3] + ((1,), [1], "3")),
+    "vector": (errors.InvalidVector, WHOLE[:3] + BROKEN_PAIRS),
+    "level": (errors.InvalidNumber, ("3", (3,), [3], b"3") + PAIRS[:3]),
+    "way": (errors.InvalidWay, WHOLE[:3] + BROKEN_PAIRS + ((0, 0), (2, 4), (2, 0), (0, -2), (0, 3), (-3, -3), (GREAT, 5))),
+    "turn": (errors.InvalidTurn, WHOLE[:3] + BROKEN_PAIRS + (
+        (0, 0), (2, 4), (2, 0), (0, -1), (0, 2), (-1, 0), (-1, 2), (-3, -1), (3, 3), (GREAT, -5),
+    )),
+    "angle": (errors.InvalidAngle, WHOLE[:3] + PAIRS[:2] + (
+        [1, 3, 4, 3], (1, 3, 4), (1, 3, 4, 3, 0), (3, 4, 3), (0, 3, 4, 3), (4, 3, 4, 3), (True, 3, 4, 3), (1, True, 4, 3),
+        (1, 3, 4, True), (1, 3, False, 1), (1, 3, 4, 5), (1, 3, 4, -5), (1, 3, 4, 6), (1, 6, 8, 6), (1, 0, 2, 0),
+        (1, 0, 0, 0), (2, 0, 0, 1), (2, 1, 2, 3), (3, 1, 1, 2), (3, 1, 1, -2), (1, (3, 4), 3), ((1, 3, 4, 3),), "1343",
+        (1, 3, None, 3), ("1", 3, 4, 3), (1, 3, 4, "3"), (1, [3], 4, 3), (1, GREAT, 0, GREAT), (1, Grumpy(), 4, 3),
+    )),
+    "region": (errors.InvalidRegion, WHOLE[:3] + PAIRS + (
+        (1,), (1, SIDE, SIDE), [1, SIDE], SIDE, ("all",), (0, SIDE), (4, SIDE), (True, SIDE), ("1", SIDE), (None, SIDE),
+        (SIDE, 1), FRONT, SLIDE, ((1, SIDE),),
+    ) + tuple((1, tree) for tree in BAD_TREES)),
+    "valve": (errors.InvalidValve, WHOLE[:3] + PAIRS[:3] + (
+        FRONT, list(SLIDE), SLIDE[:3], SLIDE + (1,), (0,) + SLIDE[1:], (4,) + SLIDE[1:], (True,) + SLIDE[1:],
+        (1, [3, 4], (3, 0, 3, 0), 2), (1, (3, 4), [3, 0, 3, 0], 2), (1, (3, 4, 0), (3, 0, 3, 0), 2),
+        (1, (3, 4), (3, 0, 3), 2), (1, (3, 4), (3, 0, 3, 0), 0), (1, (3, 4), (3, 0, 3, 0), -2),
+        (1, (3, 4), (3, 0, 3, 0), True), (1, (3, 4), (3, False, 3, 0), 2), (1, (True, 4), (3, 0, 3, 0), 2),
+        (1, (6, 8), (6, 0, 6, 0), 4), (1, (0, 0), (0, 0, 0, 0), 2), (1, Grumpy(), (3, 0, 3, 0), 2), (SLIDE,),
+    )),
+    "laps": (errors.InvalidLaps, WHOLE[:3] + PAIRS[:3] + (
+        (1, 2, 3), (1, 2, 3, 4, 5), [3, 0, 3, 0], (True, 0, 3, 0), (3, 0, 3, False), (3, 0, None, 0), ((3, 0), (3, 0)),
+        "3030", (3, 0, (3,), 0), range(4), (3, 0, 3, Grumpy()),
+    )),
+    "port": (errors.InvalidPort, (0, -1, -GREAT, (2,), [2], "2", (2, 1))),
+    "end": (errors.InvalidEnd, (0, 1, "Head", "HEAD", "heads", "hea", "head ", "both", "steam", ("head",), ["crank"], "head crank")),
+    "state": (errors.InvalidWord, (0, 1, "Steam", "open", "steam ", "head", "cutoff", ("steam",), ["steam"], b"steam")),
+    "event": (errors.InvalidWord, (0, 1, "Cutoff", "cut-off", "steam", "cutoff ", ("cutoff",), ["cutoff"], b"cutoff", "head")),
+    "ratio": (errors.InvalidRatio, WHOLE[:3] + BROKEN_PAIRS + (
+        (0, 0), (1, 0), (0, 2), (2, 4), (2, 2), (-1, 2), (3, 2), (2, 1), (-1, 1), (1, -1), (1, -2), (-1, -2), (0, -1),
+    )),
+    "rod": (errors.InvalidRod, WHOLE[:5] + BROKEN_PAIRS + (
+        (1, 1), (1, 2), (0, 1), (-2, 1), (2, -1), (2, 0), (1, 0), (-1, 0), (4, 2), (-3, -1), (GREAT, GREAT + 1), "None", (2, 1, 1),
+    )),
+    "share": (errors.InvalidShare, WHOLE[:3] + BROKEN_PAIRS + (
+        (0, 1), (1, 1), (2, 1), (3, 2), (-1, 2), (1, -2), (-1, -2), (2, 4), (0, 2), (0, 0), (1, 0), (GREAT + 1, GREAT),
+    )),
+    "polynomial": (errors.InvalidPolynomial, WHOLE[:3] + (
+        (0,), (1, 0), (0, 0), [1, 2], (True,), (1, True), (1, False, 2), (None, 1), ("1",), "12", (1, (2,)), ((1, 2),), (1, 2, 0), {1: 2},
+        range(1, 3), (1, Grumpy()), (Grumpy(), 1), ((-2, 0, 1), 1), b"12",
+    )),
+    "any ratio": (errors.InvalidRatio, WHOLE[:3] + BROKEN_PAIRS + BROKEN_RATIOS),
+    "bound": (errors.InvalidRatio, WHOLE[:3] + BROKEN_PAIRS + BROKEN_RATIOS + ("None",)),
+    "positive ratio": (errors.InvalidRatio, WHOLE[:3] + BROKEN_PAIRS + BROKEN_RATIOS + ((0, 1), (-1, 1), (-1, 2), (-GREAT, 1))),
+    "point": (errors.InvalidPoint, WHOLE[:3] + BROKEN_PAIRS + BROKEN_RATIOS + BROKEN_KNOTS),
+    "link": (errors.InvalidLink, WHOLE[:3] + PAIRS[:3] + (
+        SLIDE, LINK[:5], LINK + (1,), list(LINK), (0,) + LINK[1:], (4,) + LINK[1:], (True,) + LINK[1:], LINK[:5] + (0,), LINK[:5] + (-1,),
+        LINK[:5] + (True,), (1, (0, 4, 0), (3, 0), (0, 0), (1, 0, 1, 0), 1), (1, (0, 4), [3, 0], (0, 0), (1, 0, 1, 0), 1),
+        (1, (0, 4), (3, 0), (0, False), (1, 0, 1, 0), 1), (1, (0, 4), (3, 0), (0, 0), (1, 0, 1), 1), (LINK,),
+        (1, (0, 8), (6, 0), (0, 0), (2, 0, 2, 0), 2), (1, (0, 4), (3, 0), (0, 0), [1, 0, 1, 0], 1),
+        (1, (0, 0), (0, 0), (0, 0), (0, 0, 0, 0), 2), (1, Grumpy(), (3, 0), (0, 0), (1, 0, 1, 0), 1), (1, (0, 4), (3, 0), (0, 0), (1, 0, 1, 0), None),
+    )),
+    "notch": (errors.InvalidNotch, WHOLE[:3] + BROKEN_PAIRS + BROKEN_RATIOS + (
+        (2, 1), (-2, 1), (3, 2), (-3, 2), (GREAT + 1, GREAT), (-GREAT - 1, GREAT), (GREAT, 1), ((-1, 0, 2), 1),
+    )),
+    "lot": (errors.InvalidLot, WHOLE[:3] + PAIRS[:3] + (
+        STRETCH, [STRETCH], (list(STRETCH),), (STRETCH, STRETCH), (STRETCH[:3],), (STRETCH + (True,),), (((-1, 1), 1, (1, 1), True),),
+        (((-1, 1), True, (1, 1), 0),), (((1, 1), True, (-1, 1), True),), (((0, 1), True, (0, 1), False),), (((-2, 1), True, (0, 1), True),),
+        (((0, 1), True, (2, 1), False),), (((0, 1), True, ((-2, 0, 1), 1), False),), (((2, 4), True, (1, 1), True),), ((-1, True, 1, True),),
+        (((-1, 1), True, (0, 1), False), ((0, 1), True, (1, 1), True)), (((0, 1), True, (1, 1), True), ((-1, 1), True, (-1, 2), True)),
+        (((-1, 1), True, (1, 1), Grumpy()),), ((Grumpy(), True, (1, 1), True),), (((-1, 1), True, ((-1, 0, 1), 1), True),), (STRETCH, None),
+    )),
+    "engine": (errors.InvalidEngine, WHOLE[:3] + PAIRS[:3] + (
+        SLIDE, LINK, FRONT, (1, ()), (1, (CYLINDER,) * 5), [1, (CYLINDER,)], (1, [CYLINDER]), (1, CYLINDER), (1, (list(CYLINDER),)), (CYLINDER,),
+        (0, (CYLINDER,)), (4, (CYLINDER,)), (True, (CYLINDER,)), (2, (CYLINDER,)), (1, (CYLINDER,), 1), (1,), (None, (CYLINDER,)),
+        (1, (CYLINDER[:2],)), (1, (CYLINDER + (1,),)), (1, (((2, 2), 1, SLIDE),)), (1, (((0, -1), 1, SLIDE),)), (1, (([1, 0], 1, SLIDE),)),
+        (1, (((1, 0), 0, SLIDE),)), (1, (((1, 0), -1, SLIDE),)), (1, (((1, 0), True, SLIDE),)), (1, (((1, 0), (1, 1), SLIDE),)),
+        (1, (((1, 0), None, SLIDE),)), (1, (((1, 0), 1, list(SLIDE)),)), (1, (((1, 0), 1, (2,) + SLIDE[1:]),)), (1, (((1, 0), 1, LINK),)),
+        (1, (((1, 0), 1, (1, (6, 8), (6, 0, 6, 0), 4)),)), (1, (CYLINDER, ((1, 1), 1, (3,) + SLIDE[1:]))), (1, (CYLINDER, None)),
+        (1, (CYLINDER, ((1, 1), 0, SLIDE))), (1, (((1, 0), Grumpy(), SLIDE),)), (1, ((Grumpy(), 1, SLIDE),)), (1, (((1, 0), 1, Grumpy()),)),
+    )),
+    "sense": (errors.InvalidSense, (0, 2, -2, 3, GREAT, (1,), [1], (1, 1), "1", "-1", "forward", "backward")),
+    "stroke": (errors.InvalidStroke, (0, 1, "Out", "outs", "forth", "out ", ("out",), ["back"], b"out")),
+}
+BAD["long rod"] = BAD["rod"]
+BAD["rider"], BAD["other point"] = BAD["vector"], BAD["point"]
+# What is strange elsewhere, and good here: an endless rod, no bound, polynomials and lots that are ().
+AT_HOME = {"rod": None, "bound": None, "polynomial": (), "lot": ()}
+
+
+def is_at_home(kind, value):
+    return kind in AT_HOME and type(value) is type(AT_HOME[kind]) and value == AT_HOME[kind]
+
+
+for kind in BAD:
+    BAD[kind] = (BAD[kind][0], tuple(v for v in STRANGE if not is_at_home(kind, v)) + BAD[kind][1])
+
+OTHERS = {"other turn": "turn", "other angle": "angle", "other region": "region", "low": "angle", "high": "angle"}
+GOOD = {
+    "form": 1, "vector": (3, 4), "level": 3, "way": (3, 4), "turn": (2, 1), "angle": (1, 3, 4, 3), "region": (1, SIDE),
+    "valve": SLIDE, "laps": (3, 0, 3, 0), "port": 2, "end": "crank", "state": "both", "event": "cutoff", "ratio": (1, 2),
+    "rod": (5, 1), "long rod": (5, 1), "share": (1, 3), "stroke": "back", "polynomial": (-3, 0, 1), "any ratio": (-7, 3), "bound": (-7, 3), "positive ratio": (7, 3), "point": ((-2, 0, 1), 1),
+    "other point": (1, 2), "link": LINK, "notch": (-1, 3), "lot": (((-1, 1), True, ((-1, 0, 2), 1), False), ((1, 1), True, (1, 1), True)), "rider": (-4, 4),
+    "engine": (1, (CYLINDER, ((0, 1), 1, SLIDE))), "sense": -1,
+}
+# Each function with the names and the kinds of its arguments, in the order of the signature.
+FUNCTIONS = (
+    (angles.angle_of, (("form",), ("vector",), ("level",))),
+    (angles.falling_angle, (("form",), ("vector",), ("level",))),
+    (angles.way_angle, (("form",), ("way",))),
+    (places.as_way, (("angle",),)),
+    (places.side_at, (("angle",), ("vector",), ("level",))),
+    (places.is_same_place, (("angle",), ("other", "angle"))),
+    (places.is_before, (("angle",), ("other", "angle"))),
+    (places.is_between, (("angle",), ("low", "angle"), ("high", "angle"))),
+    (places.way_between, (("low", "angle"), ("high", "angle"))),
+    (places.opposite_angle, (("angle",),)),
+    (places.mirrored_angle, (("angle",),)),
+    (places.turned_angle, (("angle",), ("turn",))),
+    (places.turned, (("form",), ("vector",), ("turn",))),
+    (places.turn_sum, (("form",), ("turn",), ("other", "turn"))),
+    (places.turn_back, (("turn",),)),
+    (regions.holds, (("region",), ("angle",))),
+    (regions.cuts, (("region",),)),
+    (regions.arcs, (("region",),)),
+    (regions.is_never, (("region",),)),
+    (regions.is_always, (("region",),)),
+    (regions.lies_within, (("region",), ("other", "region"))),
+    (regions.is_same_region, (("region",), ("other", "region"))),
+    (regions.some_angle, (("region",),)),
+    (regions.parting_angle, (("region",), ("other", "region"))),
+    (regions.opposite_region, (("region",),)),
+    (regions.turned_region, (("region",), ("turn",))),
+    (valves.valve_of, (("form",), ("vector",), ("laps",), ("port",))),
+    (valves.state_at, (("valve",), ("end",), ("angle",))),
+    (valves.state_region, (("valve",), ("end",), ("state",))),
+    (valves.events, (("valve",),)),
+    (valves.event_angle, (("valve",), ("end",), ("event",))),
+    (valves.leads, (("valve",),)),
+    (valves.blows, (("valve",), ("end",))),
+    (valves.reversed_valve, (("valve",),)),
+    (valves.exchanged_valve, (("valve",),)),
+    (valves.turned_valve, (("valve",), ("turn",))),
+    (ports.compare_opening, (("valve",), ("end",), ("angle",), ("ratio",))),
+    (ports.compare_greatest, (("valve",), ("end",), ("ratio",))),
+    (ports.wide_region, (("valve",), ("end",), ("ratio",))),
+    (ports.greatest_way, (("valve",), ("end",))),
+    (pistons.share_angle, (("form",), ("rod",), ("share",), ("stroke",))),
+    (pistons.compare_share, (("rod",), ("angle",), ("share",))),
+    (pistons.compare_for_rods, (("rod", "long rod"), ("angle",), ("share",))),
+    (pistons.compare_event, (("valve",), ("rod",), ("end",), ("event",), ("share",))),
+    (pistons.compare_pistons, (("angle",), ("other", "angle"))),
+    (pistons.compare_cutoffs, (("valve",),)),
+    (polynomials.added, (("polynomial",), ("other", "polynomial"))),
+    (polynomials.multiplied, (("polynomial",), ("other", "polynomial"))),
+    (polynomials.value_at, (("polynomial",), ("ratio", "any ratio"))),
+    (polynomials.reduced_polynomial, (("polynomial",),)),
+    (polynomials.common_divisor, (("polynomial",), ("other", "polynomial"))),
+    (polynomials.plain_polynomial, (("polynomial",),)),
+    (polynomials.count_roots, (("polynomial",), ("low", "bound"), ("high", "bound"))),
+    (knots.roots_of, (("polynomial",),)),
+    (knots.sign_at, (("polynomial",), ("point",))),
+    (knots.compare_points, (("point",), ("other", "point"))),
+    (knots.ratio_between, (("point",), ("other", "other point"))),
+    (knots.enclosed, (("point",), ("ratio", "positive ratio"))),
+    (links.valve_at, (("link",), ("notch",))),
+    (links.eccentric_of, (("link",),)),
+    (links.lead_at, (("link",), ("end",), ("notch",))),
+    (links.has_one_lead, (("link",), ("end",))),
+    (notches.lot_holds, (("lot",), ("point",))),
+    (notches.lot_both, (("lot",), ("other", "lot"))),
+    (notches.lot_either, (("lot",), ("other", "lot"))),
+    (notches.lot_rest, (("lot",),)),
+    (notches.are_same_lots, (("lot",), ("other", "lot"))),
+    (notches.any_notch, (("lot",),)),
+    (notches.event_notches, (("link",), ("end",), ("event",))),
+    (notches.lead_notches, (("link",), ("end",), ("ratio", "any ratio"))),
+    (notches.state_notches, (("link",), ("angle",), ("end",), ("state",))),
+    (notches.late_notches, (("link",), ("end",), ("rod",), ("share",))),
+    (notches.blow_notches, (("link",), ("end",))),
+    (riders.open_region, (("valve",), ("rider",), ("end",), ("ratio", "any ratio"))),
+    (riders.plate_kind, (("valve",), ("rider",), ("end",), ("ratio", "any ratio"))),
+    (riders.plate_marks, (("valve",), ("rider",), ("end",))),
+    (riders.plate_kinds, (("valve",), ("rider",), ("end",))),
+    (riders.compare_distance, (("valve",), ("rider",), ("end",), ("angle",), ("ratio", "any ratio"))),
+    (alike.are_alike, (("valve",), ("other", "valve"))),
+    (alike.unlike_angle, (("valve",), ("other", "valve"))),
+    (alike.are_alike_turned, (("valve",), ("other", "valve"))),
+    (alike.are_alike_at, (("link",), ("other", "link"), ("notch",))),
+    (alike.are_always_alike, (("link",), ("other", "link"))),
+    (alike.alike_notches, (("link",), ("other", "link"))),
+    (alike.parting_notch, (("link",), ("other", "link"))),
+    (engines.states_at, (("engine",), ("angle",))),
+    (engines.pull_vector, (("engine",), ("angle",))),
+    (engines.pull_sign, (("engine",), ("angle",))),
+    (engines.compare_pull, (("engine",), ("angle",), ("ratio", "any ratio"))),
+    (engines.marks_of, (("engine",),)),
+    (engines.starting_arcs, (("engine",), ("sense",))),
+    (engines.starts_everywhere, (("engine",), ("sense",))),
+    (engines.dead_angle, (("engine",), ("sense",))),
+    (engines.is_above, (("engine",), ("sense",), ("ratio", "any ratio"))),
+    (engines.weak_angle, (("engine",), ("sense",), ("ratio", "any ratio"))),
+    (engines.mirrored_engine, (("engine",),)),
+)
+# What is told with "last": the function, good arguments, those whose form may be another one.
+UNLIKES = (
+    (places.is_same_place, ("angle", "other")), (places.is_before, ("angle", "other")),
+    (places.is_between, ("angle", "low", "high")), (places.way_between, ("low", "high")),
+    (regions.holds, ("region", "angle")), (regions.lies_within, ("region", "other")),
+    (regions.is_same_region, ("region", "other")), (regions.parting_angle, ("region", "other")),
+    (valves.state_at, ("valve", "angle")), (ports.compare_opening, ("valve", "angle")),
+    (pistons.compare_pistons, ("angle", "other")),
+    (notches.state_notches, ("link", "angle")), (riders.compare_distance, ("valve", "angle")),
+    (alike.are_alike, ("valve", "other")), (alike.unlike_angle, ("valve", "other")), (alike.are_alike_turned, ("valve", "other")),
+    (alike.are_alike_at, ("link", "other")), (alike.are_always_alike, ("link", "other")), (alike.alike_notches, ("link", "other")),
+    (alike.parting_notch, ("link", "other")), (engines.states_at, ("engine", "angle")), (engines.pull_vector, ("engine", "angle")),
+    (engines.pull_sign, ("engine", "angle")), (engines.compare_pull, ("engine", "angle")),
+)
+OF_OTHER_FORM = {
+    "angle": (2, 3, 4, 3), "region": (2, SIDE), "valve": (2,) + SLIDE[1:], "link": (2,) + LINK[1:],
+    "engine": (2, (((2, 1), 3, (2,) + SLIDE[1:]),)),
+}
+# The questions that any value may be asked, and the kinds that they tell.
+QUESTIONS = (
+    (angles.is_angle, "angle"), (angles.is_turn, "turn"), (regions.is_region, "region"), (valves.is_valve, "valve"),
+    (polynomials.is_polynomial, "polynomial"), (knots.is_knot, "point"), (knots.is_point, "point"), (links.is_link, "link"), (notches.is_lot, "lot"),
+)
