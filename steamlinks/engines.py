@@ -1,13 +1,13 @@
 """Engines of one to four cylinders: their pull, their marks, and whether they start by themselves."""
 
-from steamlinks.angles import angle_on_way, check_angle, check_like, is_form, is_turn
+from steamlinks.angles import check_angle, check_like, is_form, is_turn
 from steamlinks.basics import is_whole, reduced, scaled_vector, turn_factor
 from steamlinks.circle import lies_between, place_sign, places_in_order
 from steamlinks.errors import InvalidEngine, InvalidSense
 from steamlinks.places import turn_back, turned_angle
 from steamlinks.polynomials import check_ratio
 from steamlinks.trees import arcs_from, samples_round, side_cuts
-from steamlinks.valves import ENDS, exhaust_side, is_port, is_valve, mirrored_valve, state_on, steam_side
+from steamlinks.valves import ENDS, exhaust_side, is_valve, mirrored_valve, state_on, steam_side
 
 MOST_CYLINDERS = 4
 

@@ -7,7 +7,7 @@ from steamlinks.basics import norm, opposite_vector, reduced, scaled_vector
 from steamlinks.circle import along_order, place_sign, share_place
 from steamlinks.errors import InvalidVector
 from steamlinks.polynomials import check_ratio
-from steamlinks.trees import both_trees, first_angle, other_tree, side_cuts, tree_arcs, tree_holds
+from steamlinks.trees import both_trees, first_angle, other_tree, tree_arcs, tree_holds
 from steamlinks.valves import check_end, check_valve, steam_side
 
 

@@ -10,7 +10,7 @@ from steamlinks.notches import are_same_lots, is_lot, lot_holds, lot_rest
 from steamlinks.regions import is_same_region
 from steamlinks.valves import state_at, state_region, turned_valve, valve_of
 from tests import oracle
-from tests.samples import FORMS, GREAT, NOTCHES, TURNS, some_links, some_valves
+from tests.samples import GREAT, NOTCHES, TURNS, some_links, some_valves
 from tests.test_notches import ALL, HIGH, LEAST, LOW, MOST, all_but, only, points_around
 
 ENDS = ("head", "crank")

@@ -25,7 +25,10 @@ LAPPED = (3, tuple((turn, 1, (3, (0, 2), (2, 0, 2, 0), 1)) for turn in ((1, 0), 
 FOUR = (1, tuple((turn, weight, PLAIN) for turn, weight in (((1, 0), 2), ((1, 1), 1), ((0, 1), 1), ((1, -1), 3))))
 # The vector, not in line with the crank: pushes against the crank here and there.
 SKEW = (1, (((1, 0), 1, (1, (1, 2), (0, 0, 0, 0), 1)), ((1, 1), 1, (1, (1, 2), (0, 0, 0, 0), 1))))
-MANY = (ONE, PAIR, THREE, LAPPED, FOUR, SKEW)
+# Steam at the head end all round, without an eccentric and so without marks; alone, and with another crank.
+STEADY = (1, (((1, 0), 1, (1, (0, 0), (-1, 0, 0, 0), 1)),))
+STEADIER = (2, (((2, 1), 2, (2, (0, 0), (-1, 0, 0, 0), 1)), ((1, 1), 1, (2, (1, 1), (-2, 9, 9, 9), 1))))
+MANY = (ONE, PAIR, THREE, LAPPED, FOUR, SKEW, STEADY, STEADIER)
 
 
 def turned_place(form, place, turn):
@@ -202,7 +205,9 @@ class Starting(unittest.TestCase):
         for arc, following in zip(arcs, arcs[1:] + arcs[:1]):
             # Between an arc and the next one something is left out.
             if arc[0] is not None and oracle.is_same(oracle.arrow(arc[2]), oracle.arrow(following[0])):
-                self.assertFalse(arc[3] or following[1], message)
+                self.assertFalse((arc[3] or following[1]) and len(arcs) > 1, message)
+                # One arc with one place for both ends is this place alone, or all but it.
+                self.assertTrue(arc[3] is following[1], message)
         everywhere = arcs == ((None, True, None, True),)
         self.assertIs(starts_everywhere(engine, sense), everywhere, message)
         angle = dead_angle(engine, sense)
@@ -225,6 +230,10 @@ class Starting(unittest.TestCase):
     def test_told(self):
         self.assertEqual(starting_arcs(ONE, -1), ())
         self.assertEqual(starting_arcs(engine=PAIR, sense=1), ((None, True, None, True),))
+        for sense, ends in ((1, (FRONT, BACK)), (-1, (BACK, FRONT))):
+            (arc,) = starting_arcs(STEADY, sense)
+            self.assertTrue(is_same_place(arc[0], ends[0]) and is_same_place(arc[2], ends[1]))
+            self.assertEqual(arc[1::2], (False, False))
         arcs = starting_arcs(ONE, 1)
         self.assertEqual([arc[1::2] for arc in arcs], [(False, False), (False, False)])
         self.assertEqual([oracle.position(oracle.arrow(arc[0])) for arc in arcs], [0, 2])
@@ -281,6 +290,7 @@ class Above(unittest.TestCase):
         # The pull of the pair is at most the root of 2, at the middles of the quarters.
         self.assertIs(is_above(PAIR, -1, (-7, 5)), False)
         self.assertIs(is_above(PAIR, -1, (-3, 2)), True)
+        self.assertEqual([is_above(STEADY, 1, ratio) for ratio in ((-1, 1), (-GREAT - 1, GREAT), (1 - GREAT, GREAT))], [False, True, False])
         # Nothing pulls: above what is below 0, and nothing else.
         still = (1, (((1, 0), 1, (1, (0, 0), (0, 0, 0, 0), 1)),))
         self.assertEqual([is_above(still, 1, ratio) for ratio in ((-1, GREAT), (0, 1), (1, GREAT))], [True, False, False])

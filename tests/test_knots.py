@@ -1,5 +1,4 @@
 import unittest
-from decimal import Decimal
 from fractions import Fraction
 from math import gcd
 from random import Random
@@ -192,9 +191,9 @@ class RatioBetween(unittest.TestCase):
 
 class Enclosed(unittest.TestCase):
     def test_as_close_as_wished(self):
-        for points in ASCENDING:
+        for points in ASCENDING + ((((-1000003, 0, 1), 0), ((-2, 0, 0, 0, 0, 0, 0, 0, 1), 1), ((-3 * GREAT, 1, 1), 1)),):
             for point in points:
-                for ratio in ((1, 1), (3, 1), (1, 10), (GREAT, 1), (1, GREAT), (2, GREAT + 1)):
+                for ratio in ((1, 1), (3, 1), (1, 2), (1, 3), (2, 3), (21, 10), (15, 4), (1, 10), (GREAT, 1), (1, GREAT), (2, GREAT + 1)):
                     low, high = enclosed(point, ratio)
                     self.assertTrue(is_point(low) and is_point(high) and not is_knot(low) and not is_knot(high))
                     self.assertEqual([compare_points(low, point), compare_points(high, point)], [-1, 1], (point, ratio))

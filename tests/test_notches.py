@@ -77,7 +77,7 @@ class IsLot(unittest.TestCase):
             ((LEAST, True, LOW, True), (OTHER_LOW, False, MOST, True)), ((LEAST, True, LOW, False), (OTHER_LOW, True, OTHER_LOW, True)),
             only((0, 1), (0, 1)), only(LOW, OTHER_LOW), ALL + ALL,
             # Not ascending.
-            only(MOST, LEAST), only(HIGH, LOW), ((HIGH, True, LOW, True),), ((MOST, True, LEAST, True),), ((HIGH, True, (7, 10), True),),
+            only(MOST, LEAST), only(HIGH, LOW), only(LEAST, HIGH, (0, 1)), only(LEAST, (0, 1), (0, 1)), only(LEAST, LOW, HIGH, (7, 10)), ((HIGH, True, LOW, True),), ((MOST, True, LEAST, True),), ((HIGH, True, (7, 10), True),),
             only((0, 1)) + only((-1, GREAT)),
             # Single points that do not belong, told by one or two knots.
             (((0, 1), True, (0, 1), False),), (((0, 1), False, (0, 1), True),), (((0, 1), False, (0, 1), False),), ((LOW, False, OTHER_LOW, True),),
