@@ -4,7 +4,7 @@ from steamlinks.algebra import plain_of
 from steamlinks.basics import is_ratio, is_whole, reduced
 from steamlinks.errors import InvalidPoint, InvalidRatio, Same
 from steamlinks.polynomials import check_not_nought, check_polynomial, is_polynomial
-from steamlinks.roots import Root, number_order, numbers_at_nought, sign_at_number, some_ratio_between
+from steamlinks.roots import Root, number_order, numbers_at_nought, numbers_of_plain, sign_at_number, some_ratio_between
 
 
 def root_of_knot(value):
@@ -12,11 +12,11 @@ def root_of_knot(value):
     if not isinstance(value, tuple) or len(value) != 2:
         return None
     polynomial, index = value
-    if not (is_polynomial(polynomial) and is_whole(index) and 0 <= index < len(polynomial) - 1):
+    if not (is_polynomial(polynomial) and len(polynomial) > 2 and is_whole(index) and index >= 0):
         return None
-    if len(polynomial) < 3 or plain_of(polynomial) != polynomial:
+    if plain_of(polynomial) != polynomial:
         return None
-    numbers = numbers_at_nought(polynomial)
+    numbers = numbers_of_plain(polynomial)
     if index >= len(numbers) or not all([isinstance(number, Root) for number in numbers]):
         return None
     return numbers[index]

@@ -34,7 +34,7 @@ def check_notch(notch):
 
 def eccentric_row(link):
     """The pair of polynomials in the notch that the eccentric is."""
-    _, first, second, third, _, _ = link
+    first, second, third = link[1:4]
     return tuple([trimmed((first[index], second[index], third[index])) for index in (0, 1)])
 
 

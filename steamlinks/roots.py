@@ -42,7 +42,7 @@ class Root:
         return ratio_on_grid(self.place + 1, self.bits)
 
     def is_reached(self, ratio):
-        """Whether a ratio above the lower end, below the upper one, is the root or above it."""
+        """Whether a ratio above the lower end, at most at the upper one, is the root or above it."""
         found = sign_at_ratio(self.polynomial, ratio)
         return found == 0 or found == self.top
 
@@ -57,19 +57,20 @@ class Root:
     def closer(self):
         """Narrows the bracket to one of its next steps if the guess is good; otherwise the pace gets slower."""
         bits = self.bits + self.pace
-        first, last = self.place << self.pace, (self.place + 1) << self.pace
+        first = self.place << self.pace
         begin = first + self.near_step()
         if self.is_reached(ratio_on_grid(begin, bits)):
             begin -= 1
             is_sure = begin == first or not self.is_reached(ratio_on_grid(begin, bits))
         else:
-            is_sure = begin + 1 == last or self.is_reached(ratio_on_grid(begin + 1, bits))
+            is_sure = self.is_reached(ratio_on_grid(begin + 1, bits))
         if is_sure:
             self.place, self.bits = begin, bits
             self.top = sign_at_ratio(self.polynomial, self.high())
             self.pace *= 2
         else:
-            self.pace = max(self.pace // 2, 1)
+            # Never below 1: with two steps there is one inner one, which is always sure.
+            self.pace //= 2
 
 
 def reach_bits(polynomial):
@@ -102,12 +103,11 @@ def root_as_ratio(root):
     # It is a whole number of parts, as the last number of a ratio divides the lead.
     parts = root.polynomial[-1]
     first, last = floor_on_grid(parts * root.place, root.bits), floor_on_grid(parts * (root.place + 1), root.bits)
+    # A root at the upper end is the last one of them.
     while root.top != 0 and last - first > 1:
         root.closer()
         first = floor_on_grid(parts * root.place, root.bits)
         last = floor_on_grid(parts * (root.place + 1), root.bits)
-    if root.top == 0:
-        return reduced(root.high())
     if last > first and sign_at_ratio(root.polynomial, (last, parts)) == 0:
         return reduced((last, parts))
     return None
@@ -115,9 +115,10 @@ def root_as_ratio(root):
 
 def numbers_at_nought(polynomial):
     """All real roots of a polynomial other than (), ascending, each once: those that are ratios as ratios."""
-    plain = plain_of(polynomial)
-    if len(plain) == 1:
-        return []
+    return numbers_of_plain(plain_of(polynomial))
+
+
+def numbers_of_plain(plain):
     numbers = []
     rest = plain
     for root in separated_roots(plain):

@@ -266,13 +266,37 @@ class Starting(unittest.TestCase):
             self.assertIs(is_above(three, 1, ratio), ratio[0] < 0)
 
     def test_one_place_left_out(self):
-        # The head end of the one cylinder takes steam everywhere but at the touch.
-        engine = (1, (((1, 0), 1, (1, (0, 1), (0, 0, 0, 0), 1)), ((1, 1), 1, (1, (0, 1), (0, 0, 0, 0), 1)), ((1, 0), 3, (1, (0, 0), (1, 0, 1, 0), 1))))
+        # The head end takes steam everywhere but at the touch, the place of the way (0, 1).
+        engine = (1, (((1, 0), 1, (1, (0, -1), (-1, 9, 9, 9), 1)),))
+        for sense, due in ((1, ((FRONT, TOP), (TOP, BACK))), (-1, ((BACK, FRONT),))):
+            arcs = self.check_arcs(engine, sense, Random(65))
+            self.assertEqual([arc[1::2] for arc in arcs], [(False, False)] * len(due))
+            for arc, ends in zip(arcs, due):
+                self.assertTrue(is_same_place(arc[0], ends[0]) and is_same_place(arc[2], ends[1]))
+        self.assertEqual([pull_sign(engine, angle) for angle in (TOP, (1, -1, 1, 0), BOTTOM)], [0, 1, -1])
+        # The pull is 0 there, and - 1 at the least.
+        self.assertEqual([is_above(engine, 1, ratio) for ratio in ((-1, 1), (-GREAT - 1, GREAT))], [False, True])
+        self.assertTrue(is_same_place(weak_angle(engine, 1, (-1, 1)), BOTTOM))
+
+    def test_a_cylinder_without_an_eccentric(self):
+        # It pushes nowhere; nor does it hold up the others.
+        engine = (1, PAIR[1] + (((1, 0), 3, (1, (0, 0), (1, 0, 1, 0), 1)),))
         self.assertIs(starts_everywhere(engine, 1), True)
-        # Two cranks a quarter of a turn apart; both valves shut at the place of (1, 1) turned by what lies ahead.
+        self.assertEqual(starting_arcs(engine, -1), ())
+
+    def test_ahead_and_back_with_unlike_eccentrics(self):
+        # Two cranks a quarter of a turn apart, each with an eccentric at an eighth of a turn from it.
         engine = (1, (((1, 0), 1, (1, (-1, 1), (0, 0, 0, 0), 1)), ((1, 1), 1, (1, (1, 1), (0, 0, 0, 0), 1))))
         for sense in (1, -1):
             self.check_arcs(engine, sense, Random(66))
+
+    def test_one_crank_or_cranks_in_one_line_never_start_everywhere(self):
+        for engine in some_engines(40, 67):
+            form, cylinders = engine
+            for one in [cylinders[:1], tuple((turn, weight, valve) for turn, (_, weight, valve) in zip(((1, 0), (0, 1)) * 2, cylinders))]:
+                for sense in (1, -1):
+                    self.assertIs(starts_everywhere((form, one), sense), False)
+                    self.assertLessEqual(pull_sign((form, one), dead_angle((form, one), sense)) * sense, 0)
 
 
 class Above(unittest.TestCase):

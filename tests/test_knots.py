@@ -101,6 +101,30 @@ class RootsOf(unittest.TestCase):
                 for first, second in zip(roots, roots[1:]):
                     self.assertEqual(compare_points(first, second), -1)
 
+    def test_all_ratios_are_told_as_such(self):
+        for m in (1, 2, 3, 5, 7):
+            for n in range(-40, 41):
+                if gcd(n, m) == 1:
+                    self.assertEqual(roots_of((-n, m)), ((n, m),))
+                    for factor in ((-2, 0, 1), (5, 1), (-3, 2)):
+                        roots = roots_of(product((-n, m), factor))
+                        self.assertIn((n, m), roots, (n, m, factor))
+                        self.assertEqual([is_knot(root) for root in roots], [root[0] == (-2, 0, 1) for root in roots])
+
+    def test_roots_as_great_as_the_numbers_allow(self):
+        # Nearly as far from 0 as 1 and the greatest ratio of a number and the lead together.
+        for lead in range(1, 9):
+            for most in (lead, lead + 1, 7, 15, 63, GREAT):
+                for side in (1, -1):
+                    polynomial = tuple(-most * side ** power for power in range(12)) + (lead,)
+                    due = oracle.real_roots(polynomial) if most < GREAT else None
+                    roots = roots_of(polynomial)
+                    far = roots[-1 if side > 0 else 0]
+                    self.assertEqual(compare_points(far, (side * most, lead)) if gcd(most, lead) == 1 else side, side)
+                    if due is not None:
+                        self.assertEqual(len(roots), len(due), polynomial)
+                        self.assertEqual([oracle.sign(oracle.number(root) - told) for root, told in zip(roots, due)], [0] * len(due))
+
     def test_roots_hardly_beside_one_another(self):
         # Three of the roots of one polynomial differ by less than 1 / great.
         great = 10 ** 60
@@ -127,6 +151,11 @@ class SignAt(unittest.TestCase):
             (product((-2 * 10 ** 90 + 1, 0, 10 ** 90), (-1, 1)), (product((-2 * 10 ** 90 + 1, 0, 10 ** 90), (-2, 0, 1)), 3), 1),
             (product((-2 * 10 ** 90 + 1, 0, 10 ** 90), (-1, 1)), (product((-2 * 10 ** 90 + 1, 0, 10 ** 90), (-2, 0, 1)), 2), 0),
             ((1, GREAT), ((-1, 0, GREAT * GREAT + 1), 0), 1), ((1, GREAT), ((-1, 0, GREAT * GREAT - 1), 0), -1),
+            # Flat near 0 and steep at the root; small numbers and a great root.
+            ((1000,) + (0,) * 19 + (-1,), ((-2, 0, 1), 0), -1), ((1000,) + (0,) * 19 + (-1,), ROOT, -1), ((1100,) + (0,) * 19 + (-1,), ROOT, 1),
+            ((1000,) + (0,) * 18 + (1,), ((-2, 0, 1), 0), 1), ((-100100, 100), ((-1000003, 0, 1), 1), -1), ((-100000, 100), ((-1000003, 0, 1), 1), 1),
+            ((100100, 100), ((-1000003, 0, 1), 0), 1), ((100000, 100), ((-1000003, 0, 1), 0), -1),
+            ((-1001 * GREAT, GREAT), ((-1000003, 0, 1), 1), -1), ((-GREAT, 1), ((-GREAT * GREAT - 1, 0, 1), 1), 1), ((-GREAT - 1, 1), ((-GREAT * GREAT - 1, 0, 1), 1), -1),
         ):
             self.assertEqual(sign_at(polynomial, point), due, (polynomial, point))
             self.assertEqual(sign_at(polynomial=polynomial, point=point), due)
@@ -193,7 +222,7 @@ class Enclosed(unittest.TestCase):
     def test_as_close_as_wished(self):
         for points in ASCENDING + ((((-1000003, 0, 1), 0), ((-2, 0, 0, 0, 0, 0, 0, 0, 1), 1), ((-3 * GREAT, 1, 1), 1)),):
             for point in points:
-                for ratio in ((1, 1), (3, 1), (1, 2), (1, 3), (2, 3), (21, 10), (15, 4), (1, 10), (GREAT, 1), (1, GREAT), (2, GREAT + 1)):
+                for ratio in ((1, 1), (3, 1), (1, 2), (1, 3), (2, 3), (21, 10), (15, 4), (2097157, 3), (524295, 7), (1, 10), (GREAT, 1), (1, GREAT), (2, GREAT + 1)):
                     low, high = enclosed(point, ratio)
                     self.assertTrue(is_point(low) and is_point(high) and not is_knot(low) and not is_knot(high))
                     self.assertEqual([compare_points(low, point), compare_points(high, point)], [-1, 1], (point, ratio))
