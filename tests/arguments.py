@@ -1,7 +1,7 @@
 """Arguments of all kinds, wrong ones and good ones, and the functions that take them."""
 
-from steamlinks import alike, angles, engines, errors, knots, links, notches, pistons, places, polynomials, ports, regions, riders
-from steamlinks import valves
+from steamlinks import alike, angles, engines, errors, fits, knots, links, looks, notches, pistons, places, polynomials, ports, regions
+from steamlinks import riders, settings, valves, zones
 from tests.samples import GREAT
 
 
@@ -52,6 +52,44 @@ BROKEN_KNOTS = (
 LINK = (1, (0, 4), (3, 0), (0, 0), (1, 0, 1, 0), 1)
 STRETCH = ((-1, 1), True, (1, 1), True)
 CYLINDER = ((2, 1), 3, SLIDE)
+GEAR = ((2, 1), 3, LINK)
+LOOK = (FRONT, "head")
+WRONG = ("moved", (1, 2))
+SIGHTING = ((-1, 3), "crank", "release", (2, 1))
+BAD_WRONGS = (
+    ("right", 1), ("right", (1, 1)), ("Right",), ("rigth",), ("opposite", (1, 1)), ("moved",), ("moved", (2, 4)), ("moved", (1, 0)),
+    ("moved", 1), ("moved", (1, -2)), ("moved", (1, 1), 1), ("moved", [1, 1]), ("moved", None), ("slipped",), ("slipped", (0, -1)),
+    ("slipped", (-1, 1)), ("slipped", (2, 2)), ("slipped", (1, 1), (1, 1)), ("thrown",), ("thrown", (0, 1)), ("thrown", (-1, 1)),
+    ("thrown", (2, 4)), ("thrown", (True, 1)), ("turned", (1, 1)), ["right"], ["moved", (1, 1)], "right", ("right ",), (b"right",),
+    (("right",),), (Grumpy(),), ("moved", Grumpy()), (Grumpy(), (1, 1)), ("slipped", Grumpy()), ("", (1, 1)), (None, (1, 1)), (1,),
+)
+BAD_LOOKS = (
+    FRONT, (FRONT,), (FRONT, "Head"), (FRONT, "head", "head"), [FRONT, "head"], ("head", FRONT), (FRONT, None), (FRONT, ("head",)),
+    (list(FRONT), "head"), ((2, 0, 1, 0), "head"), ((3, 1, 0, 0), "crank"), ((1, 3, 4, 5), "head"), ((1, 2, 0, 0), "head"),
+    (Grumpy(), "head"), (FRONT, Grumpy()), ((True, 0, 1, 0), "head"), (None, "head"), (LOOK, "closed"), (0, 1, 0),
+)
+BAD_FINDINGS = (
+    LOOK, (LOOK,), (LOOK, "open"), (LOOK, "steam", "steam"), [LOOK, "steam"], ("steam", LOOK), (LOOK, None), (LOOK, ("steam",)),
+    (list(LOOK), "steam"), (LOOK, Grumpy()), (Grumpy(), "steam"), (((2, 0, 1, 0), "head"), "steam"), ((FRONT, "heads"), "steam"),
+    (FRONT, "steam"), (LOOK, "head"),
+)
+BAD_SIGHTINGS = (
+    SIGHTING[:3], SIGHTING + (1,), list(SIGHTING), ((2, 1),) + SIGHTING[1:], ((-3, 2),) + SIGHTING[1:], ((2, 4),) + SIGHTING[1:],
+    (((-1, 0, 2), 1),) + SIGHTING[1:], (1,) + SIGHTING[1:], ((-1, 3), "Crank", "release", (2, 1)), ((-1, 3), None, "release", (2, 1)),
+    ((-1, 3), "crank", "steam", (2, 1)), ((-1, 3), "crank", "Release", (2, 1)), ((-1, 3), "crank", None, (2, 1)),
+    ((-1, 3), "release", "crank", (2, 1)), ((-1, 3), "crank", "release", (0, -1)), ((-1, 3), "crank", "release", (-2, 1)),
+    ((-1, 3), "crank", "release", (2, 2)), ((-1, 3), "crank", "release", [2, 1]), ((-1, 3), "crank", "release", None),
+    ((-1, 3), "crank", "release", (True, 1)), (Grumpy(), "crank", "release", (2, 1)), ((-1, 3), Grumpy(), "release", (2, 1)),
+    ((-1, 3), "crank", Grumpy(), (2, 1)), ((-1, 3), "crank", "release", Grumpy()), ((2, 1), "crank", "release", (-1, 3)),
+)
+
+
+def spoilt_rows(good, bad, most):
+    """Tuples with a bad element, or one too many, and the index that is told of each."""
+    rows = [((value,), 0) for value in bad] + [((good, value), 1) for value in bad[::2]]
+    rows += [((good,) * (most - 1) + (bad[0],), most - 1), ((good,) * (most + 1), most), ((good,) * (most + 3), most)]
+    rows += [((good,) * most + (bad[0],), most), ((good, bad[0], bad[-1]), 1), ((bad[0],) * (most + 1), 0), ((good, None, good), 1)]
+    return tuple(rows) + (([good], None), ([], None), ("good", None), ({0: good}, None), (None, None))
 
 BAD = {
     "form": (errors.InvalidForm, (0, 4, -1, -3, GREAT) + PAIRS[:3] + ((1,), [1], "3")),
@@ -132,18 +170,40 @@ BAD = {
     "sense": (errors.InvalidSense, (0, 2, -2, 3, GREAT, (1,), [1], (1, 1), "1", "-1", "forward", "backward")),
     "stroke": (errors.InvalidStroke, (0, 1, "Out", "outs", "forth", "out ", ("out",), ["back"], b"out")),
 }
+BAD["geared"] = (errors.InvalidGeared, WHOLE[:3] + PAIRS[:3] + (
+    SLIDE, LINK, FRONT, (1, ()), (1, (GEAR,) * 3), [1, (GEAR,)], (1, [GEAR]), (1, GEAR), (1, (list(GEAR),)), (GEAR,), (0, (GEAR,)), (4, (GEAR,)),
+    (True, (GEAR,)), (2, (GEAR,)), (1, (GEAR,), 1), (1,), (None, (GEAR,)), (1, (GEAR[:2],)), (1, (GEAR + (1,),)), (1, (CYLINDER,)),
+    (1, (((2, 2), 1, LINK),)), (1, (((0, -1), 1, LINK),)), (1, (([1, 0], 1, LINK),)), (1, (((1, 0), 0, LINK),)), (1, (((1, 0), -1, LINK),)),
+    (1, (((1, 0), True, LINK),)), (1, (((1, 0), (1, 1), LINK),)), (1, (((1, 0), None, LINK),)), (1, (((1, 0), 1, list(LINK)),)),
+    (1, (((1, 0), 1, (2,) + LINK[1:]),)), (1, (((1, 0), 1, SLIDE),)), (1, (GEAR, ((1, 1), 1, (3,) + LINK[1:]))), (1, (GEAR, None)),
+    (1, (GEAR, ((1, 1), 0, LINK))), (1, (((1, 0), Grumpy(), LINK),)), (1, ((Grumpy(), 1, LINK),)), (1, (((1, 0), 1, Grumpy()),)),
+    (1, (GEAR, GEAR, GEAR, GEAR)), (1, (GEAR, CYLINDER)),
+))
+BAD["wrong"] = (errors.InvalidWrong, WHOLE[:3] + PAIRS[:3] + BAD_WRONGS)
+BAD["look"] = (errors.InvalidLook, WHOLE[:3] + PAIRS[:3] + BAD_LOOKS)
 BAD["long rod"] = BAD["rod"]
 BAD["rider"], BAD["other point"] = BAD["vector"], BAD["point"]
-# What is strange elsewhere, and good here: an endless rod, no bound, polynomials and lots that are ().
-AT_HOME = {"rod": None, "bound": None, "polynomial": (), "lot": ()}
+# What is strange elsewhere, and good here: an endless rod, no bound, polynomials, lots and looks that are ().
+AT_HOME = {"rod": None, "bound": None, "polynomial": (), "lot": (), "looks": (), "findings": ()}
 
 
 def is_at_home(kind, value):
     return kind in AT_HOME and type(value) is type(AT_HOME[kind]) and value == AT_HOME[kind]
 
 
+# From here on each bad value stands beside what the error keeps: the value, or an index.
 for kind in BAD:
-    BAD[kind] = (BAD[kind][0], tuple(v for v in STRANGE if not is_at_home(kind, v)) + BAD[kind][1])
+    BAD[kind] = (BAD[kind][0], tuple((v, v) for v in tuple(v for v in STRANGE if not is_at_home(kind, v)) + BAD[kind][1]))
+for kind, error, good, bad, most in (
+    ("wrongs", errors.InvalidWrongs, WRONG, BAD_WRONGS, 6), ("looks", errors.InvalidLooks, LOOK, BAD_LOOKS, 8),
+    ("findings", errors.InvalidFindings, (LOOK, "steam"), BAD_FINDINGS, 8),
+    ("sightings", errors.InvalidSightings, SIGHTING, BAD_SIGHTINGS, 8),
+):
+    strange = tuple((v, 0 if isinstance(v, tuple) and v else None) for v in STRANGE if not (isinstance(v, tuple) and not v))
+    BAD[kind] = (error, strange + spoilt_rows(good, bad, most))
+BAD["wrongs"] = (errors.InvalidWrongs, BAD["wrongs"][1] + (((), None),))
+BAD["sightings"] = (errors.InvalidSightings, BAD["sightings"][1] + (((), 0),))
+BAD["sighting"] = (errors.InvalidSightings, tuple((v, None) for v in STRANGE + WHOLE[:3] + PAIRS[:3] + BAD_SIGHTINGS))
 
 OTHERS = {"other turn": "turn", "other angle": "angle", "other region": "region", "low": "angle", "high": "angle"}
 GOOD = {
@@ -151,7 +211,9 @@ GOOD = {
     "valve": SLIDE, "laps": (3, 0, 3, 0), "port": 2, "end": "crank", "state": "both", "event": "cutoff", "ratio": (1, 2),
     "rod": (5, 1), "long rod": (5, 1), "share": (1, 3), "stroke": "back", "polynomial": (-3, 0, 1), "any ratio": (-7, 3), "bound": (-7, 3), "positive ratio": (7, 3), "point": ((-2, 0, 1), 1),
     "other point": (1, 2), "link": LINK, "notch": (-1, 3), "lot": (((-1, 1), True, ((-1, 0, 2), 1), False), ((1, 1), True, (1, 1), True)), "rider": (-4, 4),
-    "engine": (1, (CYLINDER, ((0, 1), 1, SLIDE))), "sense": -1,
+    "engine": (1, (CYLINDER, ((0, 1), 1, SLIDE))), "sense": -1, "geared": (1, (GEAR, ((0, 1), 1, LINK))), "wrong": WRONG, "look": LOOK,
+    "wrongs": (WRONG, ("right",), ("slipped", (0, 1)), ("thrown", (1, 2)), ("opposite",), WRONG), "looks": (LOOK,) * 8,
+    "findings": ((LOOK, "steam"),) * 8, "sightings": (SIGHTING,) * 8, "sighting": SIGHTING,
 }
 # Each function with the names and the kinds of its arguments, in the order of the signature.
 FUNCTIONS = (
@@ -251,6 +313,36 @@ FUNCTIONS = (
     (engines.is_above, (("engine",), ("sense",), ("ratio", "any ratio"))),
     (engines.weak_angle, (("engine",), ("sense",), ("ratio", "any ratio"))),
     (engines.mirrored_engine, (("engine",),)),
+    (zones.engine_at, (("geared",), ("notch",))),
+    (zones.critical_notches, (("geared",),)),
+    (zones.starts_at, (("geared",), ("sense",), ("notch",))),
+    (zones.starting_zones, (("geared",), ("sense",))),
+    (zones.any_starting_notch, (("geared",), ("sense",))),
+    (zones.stalling_notch, (("geared",), ("sense",))),
+    (settings.moved, (("valve",), ("ratio", "any ratio"))),
+    (settings.thrown, (("valve",), ("ratio", "positive ratio"))),
+    (settings.opposite, (("valve",),)),
+    (settings.even_shift, (("valve",),)),
+    (settings.even_release_shift, (("valve",),)),
+    (settings.evened, (("valve",),)),
+    (settings.crossed, (("link",),)),
+    (settings.moved_link, (("link",), ("ratio", "any ratio"))),
+    (settings.turned_link, (("link",), ("turn",))),
+    (settings.thrown_link, (("link",), ("ratio", "positive ratio"))),
+    (looks.wrong_valve, (("valve",), ("wrong",))),
+    (looks.seen, (("valve",), ("look",))),
+    (looks.is_parting, (("valve",), ("other", "valve"), ("look",))),
+    (looks.left_by, (("valve",), ("wrongs",), ("findings",))),
+    (looks.blind_pairs, (("valve",), ("wrongs",))),
+    (looks.fewest_looks, (("valve",), ("wrongs",), ("looks",))),
+    (looks.any_fewest_looks, (("valve",), ("wrongs",))),
+    (fits.sighting_rows, (("form",), ("sighting",))),
+    (fits.fits, (("link",), ("sightings",))),
+    (fits.fitting_link, (("form",), ("sightings",))),
+    (fits.bar, (("form",), ("sightings",))),
+    (fits.freedom, (("form",), ("sightings",))),
+    (fits.follows, (("form",), ("sightings",), ("sighting",))),
+    (fits.parting_link, (("form",), ("sightings",), ("sighting",))),
 )
 # What is told with "last": the function, good arguments, those whose form may be another one.
 UNLIKES = (
@@ -264,14 +356,15 @@ UNLIKES = (
     (alike.are_alike, ("valve", "other")), (alike.unlike_angle, ("valve", "other")), (alike.are_alike_turned, ("valve", "other")),
     (alike.are_alike_at, ("link", "other")), (alike.are_always_alike, ("link", "other")), (alike.alike_notches, ("link", "other")),
     (alike.parting_notch, ("link", "other")), (engines.states_at, ("engine", "angle")), (engines.pull_vector, ("engine", "angle")),
-    (engines.pull_sign, ("engine", "angle")), (engines.compare_pull, ("engine", "angle")),
+    (engines.pull_sign, ("engine", "angle")), (engines.compare_pull, ("engine", "angle")), (looks.is_parting, ("valve", "other")),
 )
 OF_OTHER_FORM = {
     "angle": (2, 3, 4, 3), "region": (2, SIDE), "valve": (2,) + SLIDE[1:], "link": (2,) + LINK[1:],
-    "engine": (2, (((2, 1), 3, (2,) + SLIDE[1:]),)),
+    "engine": (2, (((2, 1), 3, (2,) + SLIDE[1:]),)), "look": ((2, 0, 1, 0), "head"),
 }
 # The questions that any value may be asked, and the kinds that they tell.
 QUESTIONS = (
     (angles.is_angle, "angle"), (angles.is_turn, "turn"), (regions.is_region, "region"), (valves.is_valve, "valve"),
     (polynomials.is_polynomial, "polynomial"), (knots.is_knot, "point"), (knots.is_point, "point"), (links.is_link, "link"), (notches.is_lot, "lot"),
+    (zones.is_geared, "geared"),
 )

@@ -9,7 +9,7 @@ HERE = os.path.dirname(os.path.abspath(__file__))
 
 class Examples(unittest.TestCase):
     def test_as_they_stand(self):
-        self.check_file("examples.txt", 60)
+        self.check_file("examples.txt", 74)
 
     def test_of_the_readme(self):
         self.check_file(os.path.join("..", "README.md"), 26)

@@ -72,6 +72,22 @@ INTERFACE = {
         "marks_of": "engine", "starting_arcs": "engine sense", "starts_everywhere": "engine sense", "dead_angle": "engine sense",
         "is_above": "engine sense ratio", "weak_angle": "engine sense ratio", "mirrored_engine": "engine",
     },
+    "zones": {
+        "is_geared": "value", "engine_at": "geared notch", "critical_notches": "geared", "starts_at": "geared sense notch",
+        "starting_zones": "geared sense", "any_starting_notch": "geared sense", "stalling_notch": "geared sense",
+    },
+    "settings": {
+        "moved": "valve ratio", "thrown": "valve ratio", "opposite": "valve", "even_shift": "valve", "even_release_shift": "valve",
+        "evened": "valve", "crossed": "link", "moved_link": "link ratio", "turned_link": "link turn", "thrown_link": "link ratio",
+    },
+    "looks": {
+        "wrong_valve": "valve wrong", "seen": "valve look", "is_parting": "valve other look", "left_by": "valve wrongs findings",
+        "blind_pairs": "valve wrongs", "fewest_looks": "valve wrongs looks", "any_fewest_looks": "valve wrongs",
+    },
+    "fits": {
+        "sighting_rows": "form sighting", "fits": "link sightings", "fitting_link": "form sightings", "bar": "form sightings",
+        "freedom": "form sightings", "follows": "form sightings sighting", "parting_link": "form sightings sighting",
+    },
 }
 # A piece of code for each rule that the check knows, and the rule that it breaks.
 BROKEN = (
