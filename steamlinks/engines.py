@@ -33,8 +33,12 @@ def check_engine(engine):
         raise InvalidEngine(engine)
 
 
+def is_sense(value):
+    return is_whole(value) and value in (1, -1)
+
+
 def check_sense(sense):
-    if not is_whole(sense) or sense not in (1, -1):
+    if not is_sense(sense):
         raise InvalidSense(sense)
 
 

@@ -11,6 +11,11 @@ def product_of_rows(row, other):
     return sum([first * second for first, second in zip(row, other)])
 
 
+def sum_of_rows(rows, multiples):
+    """The row of the sums of all rows, each times its multiple; there is at least one row."""
+    return [product_of_rows([row[at] for row in rows], multiples) for at in range(len(rows[0]))]
+
+
 def told_short(row):
     """The row divided by its greatest common divisor; a row of noughts as it is."""
     factor = max(common_factor(row), 1)

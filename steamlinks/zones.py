@@ -4,7 +4,7 @@ from steamlinks.algebra import difference_of, product_of, scaled, sum_of, trimme
 from steamlinks.angles import is_form, is_turn
 from steamlinks.basics import is_whole, norm, reduced, scaled_vector, turn_factor, turned_vector
 from steamlinks.engines import angle_not_above, check_sense
-from steamlinks.errors import InvalidGeared
+from steamlinks.errors import InvalidGeared, InvalidNotch
 from steamlinks.knots import point_of
 from steamlinks.links import check_notch, cross_row, eccentric_row, inner_row, is_link, reach_polynomial, valve_on
 from steamlinks.lots import marks_of_polynomials
@@ -33,6 +33,14 @@ def is_geared(value):
 def check_geared(geared):
     if not is_geared(geared):
         raise InvalidGeared(geared)
+
+
+def check_bounds(low, high):
+    """Both are notches, the second one above the first one."""
+    check_notch(low)
+    check_notch(high)
+    if high[0] * low[1] <= low[0] * high[1]:
+        raise InvalidNotch(high)
 
 
 def engine_on(geared, notch):

@@ -1,7 +1,7 @@
 """Arguments of all kinds, wrong ones and good ones, and the functions that take them."""
 
-from steamlinks import alike, angles, engines, errors, fits, knots, links, looks, notches, pistons, places, polynomials, ports, regions
-from steamlinks import riders, settings, valves, zones
+from steamlinks import alike, angles, certificates, engines, errors, fits, knots, links, looks, notches, pistons, places, polynomials
+from steamlinks import ports, regions, riders, settings, valves, zones
 from tests.samples import GREAT
 
 
@@ -181,6 +181,7 @@ BAD["geared"] = (errors.InvalidGeared, WHOLE[:3] + PAIRS[:3] + (
 ))
 BAD["wrong"] = (errors.InvalidWrong, WHOLE[:3] + PAIRS[:3] + BAD_WRONGS)
 BAD["look"] = (errors.InvalidLook, WHOLE[:3] + PAIRS[:3] + BAD_LOOKS)
+BAD["high notch"] = (errors.InvalidNotch, BAD["notch"][1] + ((-1, 3), (-1, 2), (-1, 1), (-GREAT, GREAT + 1)))
 BAD["long rod"] = BAD["rod"]
 BAD["rider"], BAD["other point"] = BAD["vector"], BAD["point"]
 # What is strange elsewhere, and good here: an endless rod, no bound, polynomials, lots and looks that are ().
@@ -213,7 +214,7 @@ GOOD = {
     "other point": (1, 2), "link": LINK, "notch": (-1, 3), "lot": (((-1, 1), True, ((-1, 0, 2), 1), False), ((1, 1), True, (1, 1), True)), "rider": (-4, 4),
     "engine": (1, (CYLINDER, ((0, 1), 1, SLIDE))), "sense": -1, "geared": (1, (GEAR, ((0, 1), 1, LINK))), "wrong": WRONG, "look": LOOK,
     "wrongs": (WRONG, ("right",), ("slipped", (0, 1)), ("thrown", (1, 2)), ("opposite",), WRONG), "looks": (LOOK,) * 8,
-    "findings": ((LOOK, "steam"),) * 8, "sightings": (SIGHTING,) * 8, "sighting": SIGHTING,
+    "high notch": (1, 2), "findings": ((LOOK, "steam"),) * 8, "sightings": (SIGHTING,) * 8, "sighting": SIGHTING,
 }
 # Each function with the names and the kinds of its arguments, in the order of the signature.
 FUNCTIONS = (
@@ -343,6 +344,28 @@ FUNCTIONS = (
     (fits.freedom, (("form",), ("sightings",))),
     (fits.follows, (("form",), ("sightings",), ("sighting",))),
     (fits.parting_link, (("form",), ("sightings",), ("sighting",))),
+    (certificates.certify_place, (("region",), ("angle",))),
+    (certificates.certify_region, (("region",),)),
+    (certificates.certify_within, (("region",), ("other", "region"))),
+    (certificates.certify_state, (("valve",), ("end",), ("angle",))),
+    (certificates.certify_blow, (("valve",), ("end",))),
+    (certificates.certify_share, (("valve",), ("rod",), ("end",), ("event",), ("share",))),
+    (certificates.certify_greatest, (("valve",), ("end",), ("ratio",))),
+    (certificates.certify_alike, (("valve",), ("other", "valve"))),
+    (certificates.certify_links, (("link",), ("other", "link"))),
+    (certificates.certify_roots, (("polynomial",),)),
+    (certificates.certify_notches, (("link",), ("angle",), ("end",), ("state",))),
+    (certificates.certify_always, (("link",), ("angle",), ("end",), ("state",))),
+    (certificates.certify_kinds, (("valve",), ("rider",), ("end",))),
+    (certificates.certify_start, (("engine",), ("sense",))),
+    (certificates.certify_pull, (("engine",), ("sense",), ("ratio", "any ratio"))),
+    (certificates.certify_zone, (("geared",), ("sense",), ("low", "notch"), ("high", "high notch"))),
+    (certificates.certify_run, (("geared",), ("sense",), ("notch",))),
+    (certificates.certify_fit, (("link",), ("sightings",))),
+    (certificates.certify_fitting, (("form",), ("sightings",))),
+    (certificates.certify_following, (("form",), ("sightings",), ("sighting",))),
+    (certificates.certify_blind, (("valve",), ("wrong",), ("other", "wrong"))),
+    (certificates.certify_looks, (("valve",), ("wrongs",))),
 )
 # What is told with "last": the function, good arguments, those whose form may be another one.
 UNLIKES = (
@@ -357,6 +380,10 @@ UNLIKES = (
     (alike.are_alike_at, ("link", "other")), (alike.are_always_alike, ("link", "other")), (alike.alike_notches, ("link", "other")),
     (alike.parting_notch, ("link", "other")), (engines.states_at, ("engine", "angle")), (engines.pull_vector, ("engine", "angle")),
     (engines.pull_sign, ("engine", "angle")), (engines.compare_pull, ("engine", "angle")), (looks.is_parting, ("valve", "other")),
+    (certificates.certify_place, ("region", "angle")), (certificates.certify_within, ("region", "other")),
+    (certificates.certify_state, ("valve", "angle")), (certificates.certify_alike, ("valve", "other")),
+    (certificates.certify_links, ("link", "other")), (certificates.certify_notches, ("link", "angle")),
+    (certificates.certify_always, ("link", "angle")),
 )
 OF_OTHER_FORM = {
     "angle": (2, 3, 4, 3), "region": (2, SIDE), "valve": (2,) + SLIDE[1:], "link": (2,) + LINK[1:],

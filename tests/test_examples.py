@@ -12,7 +12,7 @@ class Examples(unittest.TestCase):
         self.check_file("examples.txt", 74)
 
     def test_of_the_readme(self):
-        self.check_file(os.path.join("..", "README.md"), 26)
+        self.check_file(os.path.join("..", "README.md"), 52)
 
     def check_file(self, name, many):
         told = doctest.testfile(os.path.join(HERE, name), module_relative=False, encoding="utf-8")

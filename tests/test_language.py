@@ -88,6 +88,27 @@ INTERFACE = {
         "sighting_rows": "form sighting", "fits": "link sightings", "fitting_link": "form sightings", "bar": "form sightings",
         "freedom": "form sightings", "follows": "form sightings sighting", "parting_link": "form sightings sighting",
     },
+    "workshops": {"Workshop": ""},
+    "consoles": {"Console": "shop"},
+    "checker": {"accepts": "claim paper"},
+    "certificates": {
+        "certify_place": "region angle", "certify_region": "region", "certify_within": "region other",
+        "certify_state": "valve end angle", "certify_blow": "valve end", "certify_share": "valve rod end event share",
+        "certify_greatest": "valve end ratio", "certify_alike": "valve other", "certify_links": "link other",
+        "certify_roots": "polynomial", "certify_notches": "link angle end state", "certify_always": "link angle end state",
+        "certify_kinds": "valve rider end", "certify_start": "engine sense", "certify_pull": "engine sense ratio",
+        "certify_zone": "geared sense low high", "certify_run": "geared sense notch", "certify_fit": "link sightings",
+        "certify_fitting": "form sightings", "certify_following": "form sightings sighting",
+        "certify_blind": "valve wrong other", "certify_looks": "valve wrongs",
+    },
+}
+# The methods and properties of the classes, which their own bodies define.
+METHODS = {
+    ("workshops", "Workshop"): {
+        "put": "name thing", "drop": "name", "wish": "wish", "lift": "index", "named": "name", "undo": "", "trial": "",
+        "tried": "action", "__len__": "", "__bool__": "", "__contains__": "name", "names": "", "wishes": "",
+    },
+    ("consoles", "Console"): {"__init__": "shop", "say": "line"},
 }
 # A piece of code for each rule that the check knows, and the rule that it breaks.
 BROKEN = (
@@ -180,6 +201,17 @@ class Package(unittest.TestCase):
                 if parameters is not None:
                     function = getattr(importlib.import_module(f"{PACKAGE}.{module}"), name)
                     self.assertEqual(list(inspect.signature(function).parameters), parameters.split(), name)
+
+
+    def test_the_methods_are_defined_in_their_classes(self):
+        files = files_of_package()
+        for (module, name), methods in METHODS.items():
+            (body,) = [node.body for node in ast.parse(files[module + ".py"]).body if getattr(node, "name", None) == name]
+            found = {
+                part.name: [argument.arg for argument in part.args.args] for part in body if isinstance(part, ast.FunctionDef)
+            }
+            for method, parameters in methods.items():
+                self.assertEqual(found.get(method), ["self"] + parameters.split(), (name, method))
 
 
 class Check(unittest.TestCase):

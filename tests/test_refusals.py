@@ -138,7 +138,9 @@ class Refusals(unittest.TestCase):
 
     def test_every_function_of_the_interface_is_here(self):
         told = {function.__name__ for function, _ in FUNCTIONS + QUESTIONS}
-        self.assertEqual(told, {name for names in INTERFACE.values() for name in names} - set(INTERFACE["errors"]))
+        # Workshops and consoles have tests of their own, and the checker refuses nothing.
+        others = [name for module in ("errors", "workshops", "consoles", "checker") for name in INTERFACE[module]]
+        self.assertEqual(told, {name for names in INTERFACE.values() for name in names} - set(others))
 
 
 if __name__ == "__main__":

@@ -111,14 +111,10 @@ def due_polynomials(geared):
     return [bare(polynomial) for polynomial in found]
 
 
-def ratios_within(low, high, many):
-    """Ratios strictly between two points, some hardly beside the ends."""
-    found = [ratio_between(low, high)]
-    for _ in range(many):
-        found.append(ratio_between(low, found[0]))
-        found.append(ratio_between(found[-1], high))
-        found.append(ratio_between(low, found[-2]))
-    return found
+def ratios_within(low, high):
+    """Three ratios strictly between two points."""
+    middle = ratio_between(low, high)
+    return (middle, ratio_between(low, middle), ratio_between(middle, high))
 
 
 class Things(unittest.TestCase):
@@ -206,7 +202,7 @@ class Zones(unittest.TestCase):
             for low, high in pairs:
                 due = (low, high) in zones
                 found.add(due)
-                for notch in ratios_within(low, high, 1)[1:]:
+                for notch in ratios_within(low, high):
                     self.assertIs(starts_everywhere(engine_at(geared, notch), sense), due, (geared, sense, low, high, notch))
             for notch, is_meant in ((any_starting_notch(geared, sense), True), (stalling_notch(geared, sense), False)):
                 fitting = [pair for pair in pairs if (pair in zones) is is_meant]
@@ -264,7 +260,11 @@ class Zones(unittest.TestCase):
         self.assertEqual(found, {True, False})
 
     def test_one_cylinder_and_cranks_in_one_line_never_start(self):
-        for geared in some_geared(6, 86, (1,)) + [(form, tuple((turn, weight, link) for turn, (_, weight, link) in zip(((2, 1), turn_sum(form, (2, 1), (0, 1))), gears))) for form, gears in some_geared(6, 87, (2,))]:
+        in_line = [
+            (form, tuple((turn, weight, link) for turn, (_, weight, link) in zip(((2, 1), turn_sum(form, (2, 1), (0, 1))), gears)))
+            for form, gears in some_geared(6, 87, (2,))
+        ]
+        for geared in some_geared(6, 86, (1,)) + in_line:
             for sense in (1, -1):
                 self.assertEqual(starting_zones(geared, sense), ())
                 self.assertIsNone(any_starting_notch(geared, sense))
