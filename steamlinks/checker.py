@@ -228,13 +228,12 @@ def is_bar(value, many):
 
 def is_shown_barred(told, paper):
     form, sightings = told
-    check_form(form)
     check_sightings(sightings)
     if not is_bar(paper, len(sightings)):
         return False
     pairs = [sighting_rows(form, sighting) for sighting in sightings]
     rows = [even for even, _ in pairs] + [strict for _, strict in pairs]
-    return not any(sum_of_rows(rows, paper[0] + paper[1]))
+    return all([number == 0 for number in sum_of_rows(rows, paper[0] + paper[1])])
 
 
 def is_shown_free(told, paper):

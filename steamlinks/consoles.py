@@ -31,8 +31,8 @@ def phrase_in(line):
     if line in ("undo", "names"):
         return (line, None, None)
     head, colon, text = line.partition(": ")
-    word, blank, name = head.partition(" ")
-    if not blank or not is_name(name):
+    word, _, name = head.partition(" ")
+    if not is_name(name):
         return None
     if not colon:
         return (word, name, None) if word in ("drop", "show", "leads", "starts") else None
@@ -77,6 +77,10 @@ class Console:
         if not isinstance(shop, Workshop):
             raise NotAWorkshop(shop)
         self.shop = shop
+
+    def __eq__(self, other):
+        # The other one is not asked, whatever it is.
+        return self is other
 
     def say(self, line):
         phrase = phrase_in(line) if isinstance(line, str) else None

@@ -4,7 +4,7 @@ Nothing is checked here. `Tableau` is the simplex method in whole numbers: each 
 and each step divides exactly.
 """
 
-from steamlinks.basics import common_factor, sign
+from steamlinks.basics import common_factor, reduced, sign
 
 
 def product_of_rows(row, other):
@@ -16,22 +16,20 @@ def sum_of_rows(rows, multiples):
     return [product_of_rows([row[at] for row in rows], multiples) for at in range(len(rows[0]))]
 
 
-def told_short(row):
-    """The row divided by its greatest common divisor; a row of noughts as it is."""
-    factor = max(common_factor(row), 1)
-    return tuple([number // factor for number in row])
+def shortened(rows):
+    """The rows without those of noughts alone, each reduced."""
+    return [reduced(row) for row in rows if common_factor(row) != 0]
 
 
 def rank_of(rows):
     """The greatest number of rows among which none is a sum of multiples of the others."""
-    left = [row for row in rows if common_factor(row) != 0]
+    left = shortened(rows)
     rank = 0
     while left:
         first = left[0]
         # The first number that is not 0 is taken out of all other rows.
         at = [number != 0 for number in first].index(True)
-        taken = [less_multiple(row, first, at) for row in left[1:]]
-        left = [told_short(row) for row in taken if common_factor(row) != 0]
+        left = shortened([less_multiple(row, first, at) for row in left[1:]])
         rank += 1
     return rank
 
@@ -145,7 +143,7 @@ def numbers_within(evens, stricts, weaks):
     tableau = settled(evens, stricts, weaks)
     if tableau.is_met():
         return None
-    return told_short(tableau.against())
+    return reduced(tableau.against())
 
 
 def multiples_to_nought(evens, stricts):
@@ -156,5 +154,5 @@ def multiples_to_nought(evens, stricts):
     tableau = settled(evens, stricts, [])
     if not tableau.is_met():
         return None
-    numbers = told_short(tableau.multiples())
+    numbers = reduced(tableau.multiples())
     return (numbers[:len(evens)], numbers[len(evens):])

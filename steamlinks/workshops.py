@@ -15,6 +15,9 @@ class Trial:
         self.told = None
         self.past = None
 
+    def __eq__(self, other):
+        return self is other
+
     def __enter__(self):
         self.things = self.shop.things
         self.told = self.shop.told
@@ -35,6 +38,10 @@ class Workshop:
         self.told = ()
         # The things and the wishes before each change that can be taken back.
         self.past = ()
+
+    def __eq__(self, other):
+        # The other one is not asked, whatever it is.
+        return self is other
 
     def __len__(self):
         return len(self.past)

@@ -2,14 +2,14 @@
 
 from steamlinks.algebra import difference_of, product_of, scaled, sum_of, trimmed
 from steamlinks.angles import is_form, is_turn
-from steamlinks.basics import is_whole, norm, reduced, scaled_vector, turn_factor, turned_vector
+from steamlinks.basics import is_whole, norm, scaled_vector, turn_factor, turned_vector
 from steamlinks.engines import angle_not_above, check_sense
 from steamlinks.errors import InvalidGeared, InvalidNotch
 from steamlinks.knots import point_of
 from steamlinks.links import check_notch, cross_row, eccentric_row, inner_row, is_link, reach_polynomial, valve_on
 from steamlinks.lots import marks_of_polynomials
 from steamlinks.polynomials import count_roots
-from steamlinks.roots import some_ratio_between
+from steamlinks.roots import ratio_order, some_ratio_between
 
 MOST_GEARS = 2
 
@@ -39,7 +39,7 @@ def check_bounds(low, high):
     """Both are notches, the second one above the first one."""
     check_notch(low)
     check_notch(high)
-    if high[0] * low[1] <= low[0] * high[1]:
+    if ratio_order(low, high) >= 0:
         raise InvalidNotch(high)
 
 
@@ -150,8 +150,7 @@ def is_within_zone(geared, sense, low, high):
     for polynomial in critical_polynomials(geared):
         if polynomial and count_roots(polynomial, low, high) > 0:
             return False
-    middle = reduced((low[0] * high[1] + high[0] * low[1], 2 * low[1] * high[1]))
-    return is_started(geared, sense, middle)
+    return is_started(geared, sense, some_ratio_between(low, high))
 
 
 def engine_at(geared, notch):

@@ -235,7 +235,7 @@ class Finder:
         for op, right in zip(node.ops, node.comparators):
             if isinstance(op, (ast.Is, ast.IsNot)):
                 sides = [part.value for part in (node.left, right) if isinstance(part, ast.Constant)]
-                if not any(value is None or value is True or value is False for value in sides):
+                if not any(value is None or value is True or value is False for value in sides) and not in_method_of_self(node):
                     self.say("L20", node, "is without None, True or False")
 
     def on_name(self, node):
@@ -363,6 +363,17 @@ def docstring_of(node):
         if isinstance(first, ast.Expr) and isinstance(first.value, ast.Constant) and isinstance(first.value.value, str):
             return first.value
     return None
+
+
+def in_method_of_self(node):
+    """Whether one side of a comparison is self, and this the first parameter of the method around it."""
+    if not any(isinstance(part, ast.Name) and part.id == "self" for part in [node.left] + node.comparators):
+        return False
+    while hasattr(node, "parent"):
+        node = node.parent
+        if isinstance(node, ast.FunctionDef):
+            return isinstance(node.parent, ast.ClassDef) and [argument.arg for argument in node.args.args][:1] == ["self"]
+    return False
 
 
 def names_made(node):

@@ -1,6 +1,7 @@
 """Consoles: the nine lines, their answers, and what they refuse."""
 
 import unittest
+import unittest.mock
 
 from steamlinks.angles import way_angle
 from steamlinks.consoles import Console
@@ -77,7 +78,9 @@ class Consoles(unittest.TestCase):
         self.assertEqual(console.say("show state"), PAIR_TEXT)
         self.assertEqual(console.say("state state: 1 0"), "closed closed; steam exhaust")
         self.assertTrue(console and console == console and console != other)
-        self.assertIs(console == shop, False)
+        for value in STRANGE + (shop, other, unittest.mock.ANY):
+            self.assertIs(console == value, False)
+            self.assertIs(console != value, True)
 
     def test_answers(self):
         shop = filled()
@@ -118,6 +121,19 @@ class Consoles(unittest.TestCase):
             for c, s in ((1, 0), (0, 1), (-1, 0), (0, -1), (3, 4), (-5, 2), (1, -1)):
                 due = " ".join([state_at(valve, end, way_angle(valve[0], (c, s))) for end in ("head", "crank")])
                 self.assertEqual(Console(shop).say(f"state a: {c} {s}"), due)
+
+    def test_figures_of_long_numbers(self):
+        shop = Workshop()
+        console = Console(shop)
+        for many in (1, 9, 63, 64, 65, 127, 128, 129, 399, 400):
+            number = int(("1029384756" * 40)[:many])
+            for sign in (1, -1):
+                shop.put("a", (1, (sign * number, 0), (0, -number, 10 ** many, 0), 1))
+                text = f"1 {sign * number} 0 0 -{number} {10 ** many} 0 1"
+                self.assertEqual(console.say("show a"), text)
+                self.assertEqual(console.say("valve b: " + text), "done")
+                self.assertEqual(shop.named("b"), shop.named("a"))
+                self.assertEqual(console.say("leads a"), f"{sign * number} {sign * number - 10 ** many}")
 
     def test_great_numbers(self):
         shop = filled()

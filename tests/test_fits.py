@@ -187,6 +187,10 @@ class Fitting(unittest.TestCase):
             pair = (((1, 3), end, first, (2, 1)), ((1, 3), end, second, (2, 1)))
             self.assertIsNone(self.check(2, pair))
             self.assertEqual(bar(2, pair)[1], (1, 1))
+        for turn in TURNS:
+            for notch in ((0, 1), (1, 1), (-1, 1), (2, 3)):
+                for end in ENDS:
+                    self.assertIsNone(self.check(1, ((notch, end, "admission", turn), (notch, end, "cutoff", turn))))
         # The two levels may be one: release and cutoff of the head end fall through it.
         self.assertIsNotNone(self.check(2, (((1, 3), "head", "cutoff", (2, 1)), ((1, 3), "head", "release", (2, 1)))))
         # One event at one notch at two turns.
@@ -259,6 +263,12 @@ class Following(unittest.TestCase):
         self.assertIsNone(parting_link(form=1, sightings=TOLD, sighting=ADMISSION))
         # The other way round its even row alone follows: no link that fits the one fits the other.
         self.assertIs(self.check(1, TOLD, ((0, 1), "head", "cutoff", (1, 0))), False)
+
+    def test_parted_by_the_even_row_above_or_below_alone(self):
+        # E = (0, E1), SH = 0, E1 above 0: x is above the lap wherever the arrow points up, and rises where it points ahead.
+        known = (((0, 1), "head", "admission", (1, 0)), ((0, 1), "head", "cutoff", (0, 1)))
+        for turn, event in (((3, 1), "admission"), ((3, -1), "admission"), ((1, 3), "cutoff"), ((1, -3), "cutoff"), ((1, 1), "cutoff"), ((1, -1), "cutoff")):
+            self.assertIs(self.check(1, known, ((0, 1), "head", event, turn)), False)
 
     def test_a_strict_row_of_even_ones(self):
         # Steam from the place of (1, 0) to that of (0, 1), and the same lap at both: E = (L, L), L above 0.

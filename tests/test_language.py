@@ -138,7 +138,8 @@ BROKEN = (
     ("L18", "class A:\n    def f(self):\n        return 1\n\n    def f(self):\n        return 2\n"),
     ("L19", "def f(e):\n    raise e\n"), ("L19", "def f(x):\n    try:\n        return x[0]\n    except TypeError:\n        return 1\n"),
     ("L19", "def f(x):\n    try:\n        return x[0]\n    except Exception:\n        return 1\n"),
-    ("L20", "def f(x, y):\n    return x is y\n"), ("L22", "def f(xs):\n    g = len\n    return g(xs)\n"),
+    ("L20", "def f(x, y):\n    return x is y\n"), ("L20", "def f(self, x):\n    return self is x\n"),
+    ("L20", "class A:\n    def f(self, x, y):\n        return x is y\n"), ("L22", "def f(xs):\n    g = len\n    return g(xs)\n"),
     ("L22", "def f(x):\n    return int(x, base=2)\n"), ("L23", "def f(xs):\n    return zip(xs, xs)\n"),
     ("L24", "def f(xs):\n    return {x for x in xs}\n"), ("L26", "def f(x):\n    x.items = 1\n"),
     ("L27", "A = '100 %'\n"), ("L27", "def f(n):\n    return 2 ** n\n"), ("L27", "A = '__odd__'\n"),
@@ -161,6 +162,9 @@ class Box:
 
     def __len__(self):
         return len(self.rows)
+
+    def __eq__(self, other):
+        return self is other
 
 
 def common(first, *, other=1):

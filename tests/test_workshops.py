@@ -1,6 +1,7 @@
 """Workshops: things under names, wishes that hold, changes taken back, trials."""
 
 import unittest
+import unittest.mock
 from random import Random
 
 from steamlinks import errors
@@ -126,10 +127,9 @@ class Things(Check):
         self.assertTrue(shop and filled(a=SLIDE))
         self.assertTrue(shop == shop and not shop != shop)
         self.assertTrue(shop != other and not shop == other)
-        for value in STRANGE:
-            if not isinstance(value, Grumpy):
-                self.assertIs(shop == value, False)
-                self.assertIs(shop != value, True)
+        for value in STRANGE + (other, unittest.mock.ANY, Workshop, shop.trial()):
+            self.assertIs(shop == value, False)
+            self.assertIs(shop != value, True)
 
     def test_refused_names_and_things(self):
         shop = filled(a=SLIDE)
@@ -202,6 +202,12 @@ class Wishes(Check):
             self.check_error(shop, UnknownName, ("given", wish[2] if name in wish[2:] else wish[1]), lambda: shop.wish(wish))
         shop.drop("early")
         self.check_error(shop, UnknownName, None, lambda: shop.wish(("alike", "early", "early")))
+
+    def test_valves_of_two_forms_are_never_alike(self):
+        shop = filled(a=(1, (3, 0), (1, 0, 1, 0), 1), b=(2, (3, 0), (1, 0, 1, 0), 1), c=(1, (3, 0), (1, 0, 1, 0), 1))
+        self.check_error(shop, Broken, ("index", 0), lambda: shop.wish(("alike", "a", "b")))
+        shop.wish(("alike", "a", "c"))
+        self.check_error(shop, Broken, ("index", 0), lambda: shop.put("c", shop.named("b")))
 
     def test_broken_by_a_put(self):
         shop = self.shop()
@@ -330,8 +336,9 @@ class Trials(Check):
                 shop.put("c", SLIDE)
                 1 // 0
         self.assertEqual(shop.names, ("a", "b"))
-        self.assertTrue(shop.trial() != shop.trial())
-        self.assertTrue(trial)
+        self.assertTrue(trial and trial == trial and trial != shop.trial())
+        for value in STRANGE + (shop, unittest.mock.ANY):
+            self.assertIs(trial == value, False)
 
     def test_that_end_with_an_exception(self):
         for error in (ZeroDivisionError("x"), errors.NoFit(), Odd(), KeyboardInterrupt()):

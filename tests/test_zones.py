@@ -3,7 +3,7 @@
 import unittest
 from random import Random
 
-from steamlinks.angles import way_angle
+from steamlinks.certificates import certify_zone
 from steamlinks.engines import dead_angle, is_engine, pull_sign, starts_everywhere
 from steamlinks.errors import InvalidNotch
 from steamlinks.knots import compare_points, enclosed, is_point, ratio_between, roots_of, sign_at
@@ -289,6 +289,22 @@ class Zones(unittest.TestCase):
             other = (1, tuple((turn, weight, turned_link(link, (0, 1))) for turn, weight, link in geared[1]))
             for sense in (1, -1):
                 self.assertEqual(starting_zones(other, sense), starting_zones(geared, -sense))
+
+    def test_claims_of_zones(self):
+        bounds = NOTCHES + ((1, GREAT), (-1, GREAT), (4, 7), (-4, 7), (GREAT - 1, GREAT))
+        for geared in (PAIR, MIDDLE, LATE, geared_of(STEADY, STEADY)):
+            told = critical_notches(geared)
+            for low in bounds:
+                for high in bounds:
+                    for sense in (1, -1):
+                        if low[0] * high[1] < high[0] * low[1]:
+                            is_free = not any(compare_points(low, point) < 0 and compare_points(point, high) < 0 for point in told)
+                            due = is_free and starts_at(geared, sense, ratio_between(low, high))
+                            self.assertEqual(certify_zone(geared, sense, low, high), (("zone" if due else "no zone", geared, sense, low, high), ()))
+                        else:
+                            with self.assertRaises(InvalidNotch) as error:
+                                certify_zone(geared, sense, low, high)
+                            self.assertIs(error.exception.given, high)
 
     def test_huge_numbers(self):
         link = (1, (0, -1), (0, GREAT), (0, 0), (0, 0, 0, 0), 1)
