@@ -55,6 +55,17 @@ def lifted_value(polynomial, ratio):
     return value_and_power(polynomial, ratio)[0]
 
 
+def value_on_grid(polynomial, place, bits):
+    """The value at the place divided by 2 to the power of the bits, times a power of 2 that the length tells."""
+    if bits < 0:
+        return value_on_grid(polynomial, place << -bits, 0)
+    value, shift = 0, 0
+    for number in polynomial[::-1]:
+        value = value * place + (number << shift)
+        shift += bits
+    return value
+
+
 def sign_at_ratio(polynomial, ratio):
     return sign(lifted_value(polynomial, ratio))
 
@@ -100,14 +111,23 @@ def divisor_of(first, second):
     return told_reduced(first)
 
 
+def plain_row(polynomial):
+    """Sturm's row of the plain polynomial of a polynomial other than (); the plain one is its first member."""
+    whole = told_reduced(polynomial)
+    row = sturm_row(whole)
+    # The last member is the common divisor with the derivative, but for a number.
+    if len(row[-1]) == 1:
+        return row
+    return sturm_row(quotient_of(whole, told_reduced(row[-1])))
+
+
 def plain_of(polynomial):
     """The plain polynomial of a polynomial other than ()."""
-    whole = told_reduced(polynomial)
-    return quotient_of(whole, divisor_of(whole, derivative(whole)))
+    return plain_row(polynomial)[0]
 
 
 def sturm_row(polynomial):
-    """Sturm's row of a plain polynomial, each member but for a ratio above 0."""
+    """Sturm's row of a polynomial other than (), each member but for a ratio above 0."""
     row = [polynomial]
     behind = reduced(derivative(polynomial))
     while behind:
@@ -123,6 +143,10 @@ def sign_changes(numbers):
 
 def changes_at(row, ratio):
     return sign_changes([lifted_value(polynomial, ratio) for polynomial in row])
+
+
+def changes_on_grid(row, place, bits):
+    return sign_changes([value_on_grid(polynomial, place, bits) for polynomial in row])
 
 
 def changes_far(row, direction):

@@ -76,7 +76,8 @@ def pull_order(engine, angle, ratio):
     return place_sign(angle, scaled_vector((first, second), ratio[1]), ratio[0] * parts)
 
 
-def marks_round(engine):
+def marks_of_sides(engine):
+    """Angles that tell all marks, in no order, some of them perhaps more than once."""
     form, cylinders = engine
     marks = []
     for turn, _, valve in cylinders:
@@ -84,7 +85,11 @@ def marks_round(engine):
         for end in ENDS:
             for vector, level in (steam_side(valve, end), exhaust_side(valve, end)):
                 marks.extend([turned_angle(cut, back) for cut in side_cuts(form, vector, level)])
-    return places_in_order(marks)
+    return marks
+
+
+def marks_round(engine):
+    return places_in_order(marks_of_sides(engine))
 
 
 def cuts_of_pull(engine, ratio):
@@ -105,6 +110,10 @@ def cuts_of_pull(engine, ratio):
 def angle_not_above(engine, sense, ratio):
     """An angle at which the pull times the sense is not above the ratio, None if there is none."""
     level = (sense * ratio[0], ratio[1])
+    # Most engines that hang do so at a mark, and the marks need no search for places between them.
+    for mark in marks_of_sides(engine):
+        if sense * pull_order(engine, mark, level) <= 0:
+            return mark
     for sample in samples_round(engine[0], cuts_of_pull(engine, level)):
         if sense * pull_order(engine, sample, level) <= 0:
             return sample

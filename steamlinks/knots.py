@@ -1,10 +1,10 @@
 """Points: ratios, and knots, the roots of polynomials that are no ratios; signs there, comparing, enclosing."""
 
-from steamlinks.algebra import plain_of
+from steamlinks.algebra import plain_row
 from steamlinks.basics import is_ratio, is_whole, reduced
 from steamlinks.errors import InvalidPoint, InvalidRatio, Same
 from steamlinks.polynomials import check_not_nought, check_polynomial, is_polynomial
-from steamlinks.roots import Root, number_order, numbers_at_nought, numbers_of_plain, sign_at_number, some_ratio_between
+from steamlinks.roots import Root, number_order, numbers_at_nought, numbers_of_row, sign_at_number, some_ratio_between
 
 
 def root_of_knot(value):
@@ -14,9 +14,10 @@ def root_of_knot(value):
     polynomial, index = value
     if not (is_polynomial(polynomial) and len(polynomial) > 2 and is_whole(index) and index >= 0):
         return None
-    if plain_of(polynomial) != polynomial:
+    row = plain_row(polynomial)
+    if row[0] != polynomial:
         return None
-    numbers = numbers_of_plain(polynomial)
+    numbers = numbers_of_row(row)
     if index >= len(numbers) or not all([isinstance(number, Root) for number in numbers]):
         return None
     return numbers[index]

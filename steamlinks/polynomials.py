@@ -1,6 +1,6 @@
 """Polynomials: sums, products, values, reducing, common divisors, plain polynomials, counted roots."""
 
-from steamlinks.algebra import changes_at, changes_far, divisor_of, plain_of, product_of, sign_at_ratio, sturm_row
+from steamlinks.algebra import changes_at, changes_far, divisor_of, plain_of, plain_row, product_of, sign_at_ratio
 from steamlinks.algebra import sum_of, told_reduced, value_and_power
 from steamlinks.basics import is_ratio, is_whole, reduced
 from steamlinks.errors import InvalidPolynomial, InvalidRatio, Nought
@@ -77,13 +77,12 @@ def count_roots(polynomial, low, high):
     check_not_nought(polynomial)
     if low is not None and high is not None and low[0] * high[1] >= high[0] * low[1]:
         return 0
-    plain = plain_of(polynomial)
-    row = sturm_row(plain)
+    row = plain_row(polynomial)
     above_low = changes_far(row, -1) if low is None else changes_at(row, low)
     if high is None:
         return above_low - changes_far(row, 1)
     many = above_low - changes_at(row, high)
     # Sturm's row counts a root at the upper bound, too.
-    if sign_at_ratio(plain, high) == 0:
+    if sign_at_ratio(row[0], high) == 0:
         many -= 1
     return many

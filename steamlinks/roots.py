@@ -3,9 +3,10 @@
 A number is a ratio (a pair, perhaps not reduced) or a `Root`.
 """
 
-from steamlinks.algebra import changes_at, derivative, divisor_of, lifted_value, plain_of, quotient_of, sign_at_ratio
-from steamlinks.algebra import sturm_row
+from steamlinks.algebra import derivative, divisor_of, lifted_value, plain_row, quotient_of, sign_at_ratio
+from steamlinks.algebra import value_on_grid
 from steamlinks.basics import reduced, sign
+from steamlinks.cells import single_cells
 
 
 def ratio_on_grid(place, bits):
@@ -31,7 +32,7 @@ class Root:
         # How many bits the next step tries to win.
         self.pace = pace
         # The sign at the upper end, 0 if the root is there.
-        self.top = sign_at_ratio(polynomial, ratio_on_grid(place + 1, bits))
+        self.top = sign(value_on_grid(polynomial, place + 1, bits))
         # Which one of the real roots it is, once this is known.
         self.index = None
 
@@ -46,11 +47,16 @@ class Root:
         found = sign_at_ratio(self.polynomial, ratio)
         return found == 0 or found == self.top
 
+    def is_reached_on_grid(self, place, bits):
+        """As `is_reached`, for a place on a grid."""
+        found = sign(value_on_grid(self.polynomial, place, bits))
+        return found == 0 or found == self.top
+
     def near_step(self):
         """The inner one of the next, finer steps at which the polynomial would be 0 if it ran straight."""
         steps = 1 << self.pace
-        low = abs(lifted_value(self.polynomial, self.low()))
-        high = abs(lifted_value(self.polynomial, self.high()))
+        low = abs(value_on_grid(self.polynomial, self.place, self.bits))
+        high = abs(value_on_grid(self.polynomial, self.place + 1, self.bits))
         guess = (2 * steps * low // max(low + high, 1) + 1) // 2
         return min(max(guess, 1), steps - 1)
 
@@ -59,43 +65,23 @@ class Root:
         bits = self.bits + self.pace
         first = self.place << self.pace
         begin = first + self.near_step()
-        if self.is_reached(ratio_on_grid(begin, bits)):
+        if self.is_reached_on_grid(begin, bits):
             begin -= 1
-            is_sure = begin == first or not self.is_reached(ratio_on_grid(begin, bits))
+            is_sure = begin == first or not self.is_reached_on_grid(begin, bits)
         else:
-            is_sure = self.is_reached(ratio_on_grid(begin + 1, bits))
+            is_sure = self.is_reached_on_grid(begin + 1, bits)
         if is_sure:
             self.place, self.bits = begin, bits
-            self.top = sign_at_ratio(self.polynomial, self.high())
+            self.top = sign(value_on_grid(self.polynomial, begin + 1, bits))
             self.pace *= 2
         else:
             # Never below 1: with two steps there is one inner one, which is always sure.
             self.pace //= 2
 
 
-def reach_bits(polynomial):
-    """The roots are greater than minus 2 to the power of so many bits, and smaller than the opposite."""
-    most = max([abs(number) for number in polynomial])
-    return most.bit_length() - abs(polynomial[-1]).bit_length() + 2
-
-
-def separated_roots(polynomial):
-    """All real roots of a plain polynomial, ascending."""
-    row = sturm_row(polynomial)
-    bits = -reach_bits(polynomial)
-    changes = [changes_at(row, ratio_on_grid(place, bits)) for place in (-1, 0, 1)]
-    # Brackets with their sign changes at both ends, the lowest one last.
-    waiting = [(0, bits, changes[1], changes[2]), (-1, bits, changes[0], changes[1])]
-    roots = []
-    while waiting:
-        place, bits, before, behind = waiting.pop()
-        if before - behind == 1:
-            roots.append(Root(polynomial, place, bits, 1))
-        elif before > behind:
-            middle = changes_at(row, ratio_on_grid(2 * place + 1, bits + 1))
-            waiting.append((2 * place + 1, bits + 1, middle, behind))
-            waiting.append((2 * place, bits + 1, before, middle))
-    return roots
+def separated_roots(row):
+    """All real roots of the plain polynomial of a Sturm's row, ascending."""
+    return [Root(row[0], place, bits, 1) for place, bits in single_cells(row)]
 
 
 def root_as_ratio(root):
@@ -115,13 +101,14 @@ def root_as_ratio(root):
 
 def numbers_at_nought(polynomial):
     """All real roots of a polynomial other than (), ascending, each once: those that are ratios as ratios."""
-    return numbers_of_plain(plain_of(polynomial))
+    return numbers_of_row(plain_row(polynomial))
 
 
-def numbers_of_plain(plain):
+def numbers_of_row(row):
+    """All real roots of the plain polynomial of a Sturm's row, ascending, those that are ratios as ratios."""
     numbers = []
-    rest = plain
-    for root in separated_roots(plain):
+    rest = row[0]
+    for root in separated_roots(row):
         ratio = root_as_ratio(root)
         if ratio is None:
             numbers.append(root)

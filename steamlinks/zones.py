@@ -145,12 +145,16 @@ def some_notch(geared, sense, is_meant):
     return None
 
 
+def has_root_between(polynomial, low, high):
+    """Whether a polynomial that is not () has a root strictly between two ratios."""
+    return len(polynomial) > 0 and count_roots(polynomial, low, high) > 0
+
+
 def is_within_zone(geared, sense, low, high):
     """Whether the geared engine starts strictly between two ratios, and no critical notch lies there."""
-    for polynomial in critical_polynomials(geared):
-        if polynomial and count_roots(polynomial, low, high) > 0:
-            return False
-    return is_started(geared, sense, some_ratio_between(low, high))
+    if not is_started(geared, sense, some_ratio_between(low, high)):
+        return False
+    return not any([has_root_between(polynomial, low, high) for polynomial in critical_polynomials(geared)])
 
 
 def engine_at(geared, notch):

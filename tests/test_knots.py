@@ -137,6 +137,38 @@ class RootsOf(unittest.TestCase):
             self.assertEqual(compare_points(first, second), -1)
 
 
+    def test_clusters_far_finer_than_what_lies_between_them(self):
+        # Pairs of roots hardly beside ratios, one pair much closer than the others: all are found, in a moment.
+        for great, ratios in (
+            (10 ** 60, ((-2, 7), (0, 1), (1, 3), (1, 1))), (10 ** 60 + 7, ((-10 ** 40, 3), (-1, 3), (-1, 4), (10 ** 30, 7))),
+            (GREAT, ((1, 3),)), (GREAT, ((5, 8), (GREAT, 1))), (2 ** 300, ((1, 2 ** 300), (3, 4))),
+        ):
+            factors = []
+            for index, (n, m) in enumerate(ratios):
+                steep = great if index else great * great
+                factors.append((n * n * steep * steep - 2, -2 * n * m * steep * steep, m * m * steep * steep))
+            roots = roots_of(product(*factors))
+            self.assertEqual(len(roots), 2 * len(ratios))
+            for index, (n, m) in enumerate(ratios):
+                low, high = roots[2 * index:2 * index + 2]
+                self.assertEqual([compare_points(low, (n, m)), compare_points(high, (n, m))], [-1, 1])
+            begin, end = enclosed(roots[0], (1, great ** 3))
+            self.assertEqual(sign_of_steps(product(*factors), begin, end), -1)
+
+    def test_roots_at_all_scales(self):
+        scales = (1, 10 ** 9, 10 ** 40, 10 ** 41, 10 ** 90)
+        roots = roots_of(product(*[(-2, 0, scale * scale) for scale in scales]))
+        self.assertEqual(len(roots), 10)
+        for root, scale in zip(roots[5:], scales[::-1]):
+            self.assertEqual([compare_points(root, (141, 100 * scale)), compare_points(root, (71, 50 * scale))], [1, -1])
+        self.assertEqual([root[1] for root in roots], list(range(10)))
+
+
+def sign_of_steps(polynomial, low, high):
+    """The product of the signs at two ratios."""
+    return sign_at(polynomial, low) * sign_at(polynomial, high)
+
+
 class SignAt(unittest.TestCase):
     def test_told(self):
         for polynomial, point, due in (
